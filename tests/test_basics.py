@@ -1,0 +1,160 @@
+"""Points 1 to 3 and the interface: names, arguments, kinds of values, and what may be kept."""
+
+import ast
+import copy
+import importlib
+import inspect
+import pathlib
+import unittest
+
+from tests.helping import Case, nested
+from turnsfit import alive, composed, edits, formulas, marks, nodes, places, rowtables, schemas, spots, tables, turnings
+from turnsfit.formulatext import read_formula
+from turnsfit.schematext import read_schema
+from turnsfit.turningtext import read_turning
+
+INTERFACE = {
+    "words": "is_number(value) is_name(value) is_text(value)",
+    "nodes": "need_node(value) need_thing(value) need_forest(value) is_node(value) is_forest(value) forest_size(forest)"
+             " size_of(thing) depth_of(thing) names_of(thing) shape_of(thing) compared(one,other) least_of(things)",
+    "places": "need_place(node,value) at_place(node,place) places_of(node) node_places(node) place_number(node,place)"
+              " place_at(node,number) replaced(node,place,thing)",
+    "nodetext": "thing_text(thing) forest_text(forest) read_node(value) read_forest(value)",
+    "formulas": "need_formula(value) is_formula(value) parts_of(formula) letters_of(formula) spells(formula,row)"
+                " spells_none(formula) filled(formula,pairs)",
+    "schemas": "Schema(types,tops) need_schema(value) is_schema(value) kinds_of(schema) name_for(schema,kind)"
+               " formula_for(schema,kind) kinds_named(schema,name) node_names(schema)",
+    "marks": "marks_of(node) need_marks(value) is_beginning(value) node_of(marks) place_behind(marks)",
+    "turnings": "Turning(rules,mode) need_turning(value) is_turning(value) goes_of(parts) modes_of(turning)"
+                " rule_for(turning,mode,letter) made_by(turning,parts,things) turned_forest(turning,mode,forest)"
+                " turned(turning,node) made_document(turning,node) made_size(turning,node) origins(turning,node)",
+    "edits": "need_edit(node,value) is_edit(node,value) done(node,edit) undoing(node,edit) all_done(node,edits)"
+             " undoing_all(node,edits) edits_between(one,other)",
+    "alive": "lessened(formula,letters) order_paper(schema) alive_types(schema) is_empty(schema)"
+             " check_order(schema,value) check_dead(schema,value) trimmed(schema)",
+    "around": "said_parts(forest) parts_around(turning,node,place)",
+    "composed": "composed(one,other) composed_all(turnings) keeping(names) lean(turning)",
+    "formulatext": "formula_text(formula) read_formula(text)",
+    "schematext": "schema_text(schema) read_schema(text)",
+    "turningtext": "turning_text(turning) read_turning(text)",
+    "spots": "spots(formula) first_spots(formula) last_spots(formula) next_spots(formula) trace(formula,row)"
+             " check_trace(formula,row,value) clash(formula) is_plain(formula)",
+    "rowtables": "RowTable(letters,nexts,ends) need_row_table(value) is_row_table(value) behind(table,state,row)"
+                 " accepts(table,row) least_rows(table) rows_table(formula,letters) parting_row(one,other)"
+                 " within(one,other) least_paper(table) check_least(table,value)",
+    "tables": "Table(names,begins,texts,steps,ends) need_table(value) is_table(value) state_behind(table,state,forest)"
+              " state_of(table,node) takes(table,node) table_of(schema,names)",
+    "errors": "FitError InvalidNode(at) InvalidPlace(at) InvalidFormula(at) InvalidSchema(at) InvalidTable(at)"
+              " InvalidTurning(at) InvalidEdit(at) InvalidAsk(at) InvalidText(at) InvalidSize(word) InvalidCommand"
+              " Refused(word) NoName(name)",
+}
+FOLDER = pathlib.Path(__file__).resolve().parent.parent / "turnsfit"
+NODE = ("doc", ("hi", ("b", ())))
+FORMULA = read_formula("([a b]* # c?)")
+SCHEMA = read_schema("a, a x b*, b y [# c], c y (c)")
+TURNING = read_turning('a, a # *, a doc list(!b), b b item(!a) "s"')
+TABLE = tables.table_of(SCHEMA, ("x", "y"))
+ROWS = rowtables.rows_table(FORMULA, ("", "a", "b", "c"))
+CALLS = (
+    (nodes.size_of, NODE), (nodes.shape_of, NODE), (nodes.least_of, [NODE, "x"]), (places.places_of, NODE),
+    (places.replaced, NODE, (1,), "x"), (formulas.letters_of, FORMULA), (formulas.filled, FORMULA, [["a", ("text",)]]),
+    (formulas.spells, FORMULA, ["a", ""]), (spots.trace, FORMULA, ["a", ""]), (spots.next_spots, FORMULA),
+    (spots.clash, read_formula("(a* a)")), (spots.check_trace, FORMULA, ["a", ""], (0, 2)),
+    (rowtables.least_paper, ROWS), (rowtables.behind, ROWS, 0, ["a"]), (rowtables.accepts, ROWS, [""]),
+    (tables.state_behind, TABLE, 0, ("",)), (schemas.kinds_of, SCHEMA), (marks.marks_of, NODE),
+    (marks.place_behind, [("open", "a")]), (alive.lessened, FORMULA, ["a"]), (alive.order_paper, SCHEMA),
+    (turnings.turned, TURNING, NODE), (turnings.origins, TURNING, NODE), (turnings.modes_of, TURNING),
+    (edits.undoing_all, NODE, [("drop", (), 0)]), (edits.edits_between, NODE, ("a", ())),
+    (edits.all_done, NODE, [("drop", (), 0), ("name", (), "a")]))
+
+
+def attributes(value):
+    return vars(value) if hasattr(value, "__dict__") and not inspect.isfunction(value) else value
+
+
+def has_list(value):
+    if isinstance(value, (tuple, list)):
+        return isinstance(value, list) or any(has_list(part) for part in value)
+    return False
+
+
+class BasicsTest(Case):
+    def test_interface(self):
+        for module, text in INTERFACE.items():
+            told = importlib.import_module("turnsfit." + module)
+            tree = ast.parse((FOLDER / (module + ".py")).read_text())
+            defined = {node.name for node in tree.body if isinstance(node, (ast.FunctionDef, ast.ClassDef))}
+            for entry in text.split():
+                name, _, rest = entry.partition("(")
+                self.assertIn(name, defined, module)
+                if rest:
+                    parameters = list(inspect.signature(getattr(told, name)).parameters.values())
+                    self.assertEqual([one.name for one in parameters], rest.rstrip(")").split(","), (module, name))
+                    for one in parameters:
+                        self.assertEqual((one.kind, one.default), (one.POSITIONAL_OR_KEYWORD, one.empty), (module, name))
+
+    def test_lists_or_tuples_by_position_or_by_name(self):
+        for function, *arguments in CALLS:
+            result = function(*arguments)
+            names = list(inspect.signature(function).parameters)
+            self.assertEqual(function(**dict(zip(names, arguments))), result)
+            as_tuples = [tuple(one) if isinstance(one, list) else one for one in arguments]
+            self.assertEqual(function(*as_tuples), result)
+            self.assertEqual(function(*arguments), result)
+
+    def test_arguments_stay_and_results_are_tuples(self):
+        for function, *arguments in CALLS:
+            before = copy.deepcopy([attributes(one) for one in arguments])
+            self.assertFalse(has_list(function(*arguments)), function)
+            self.assertEqual([attributes(one) for one in arguments], before)
+
+    def test_objects_made_hold_tuples(self):
+        made = (TABLE, ROWS, SCHEMA, TURNING, composed.composed(TURNING, TURNING), composed.keeping(["a"]),
+                composed.lean(TURNING), alive.trimmed(SCHEMA), rowtables.least_rows(ROWS),
+                rowtables.rows_table(("text",), ["", "a"]), tables.table_of(SCHEMA, ["x"]))
+        for one in made:
+            for value in vars(one).values():
+                self.assertFalse(has_list(value))
+            with self.assertRaises(TypeError):
+                iter(one)
+            with self.assertRaises(TypeError):
+                len(one)
+
+    def test_later_changes_have_no_effect(self):
+        pairs = [["a", ("text",)]]
+        made = formulas.filled(FORMULA, pairs)
+        letters = ["", "a", "b", "c"]
+        table = rowtables.rows_table(FORMULA, letters)
+        names = ["b", "a"]
+        turning = composed.keeping(names)
+        pairs[0][1] = ("empty",)
+        letters.clear()
+        names.append("c")
+        self.assertEqual(made, read_formula("([# b]* # c?)"))
+        self.assertTrue(table == ROWS)
+        self.assertEqual([rule[1] for rule in turning.rules], ["", "a", "b"])
+
+    def test_no_bool_is_a_number(self):
+        """True after 1, and 1 after True: nothing that was told before is told for the other."""
+        for _ in range(2):
+            self.assertEqual([places.at_place(NODE, (1,)), edits.is_edit(NODE, ("drop", (), 1)),
+                              edits.is_edit(NODE, ("drop", (), True))], [("b", ()), True, False])
+            self.assertEqual([spots.check_trace(("one", "a"), ("a",), (0,)), spots.check_trace(("one", "a"), ("a",), (False,))],
+                             [True, False])
+
+    def test_nothing_is_told_where_nothing_is_described(self):
+        for result in (nodes.need_node(NODE), nodes.need_forest(()), nodes.need_thing(""), places.need_place(NODE, ()),
+                       formulas.need_formula(FORMULA), rowtables.need_row_table(ROWS), tables.need_table(TABLE),
+                       schemas.need_schema(SCHEMA), turnings.need_turning(TURNING), marks.need_marks(marks.marks_of(NODE)),
+                       edits.need_edit(NODE, ("drop", (), 0))):
+            self.assertIsNone(result)
+
+    def test_somewhat_beyond_the_limits(self):
+        deep = nested(("a", ()), 400, lambda inner: ("a", (inner,)))
+        self.assertEqual(turnings.made_size(composed.keeping(("a",)), deep), 401)
+        self.assertEqual(marks.node_of(marks.marks_of(deep)), deep)
+        self.assertEqual(edits.done(deep, ("put", (0,) * 400, 0, "x")), places.replaced(deep, (0,) * 400, ("a", ("x",))))
+
+
+if __name__ == "__main__":
+    unittest.main()

@@ -1,0 +1,1 @@
+"""Turnsfit: nested documents, their schemas, and whatever is made of them."""

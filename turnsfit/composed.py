@@ -1,0 +1,142 @@
+"""Turnings one behind another, and turnings with the fewest modes."""
+
+from turnsfit.alike import numbered
+from turnsfit.making import Making, PartMaker, goes_within, parts_worked_out
+from turnsfit.turnings import Turning
+from turnsfit.turningtext import parts_text
+from turnsfit.words import NAME_SIGNS
+
+
+def composed(one, other):
+    rules = _rules_by_mode(one)
+    maker = PairMaker()
+    mode = maker.name_of(one.mode, other.mode)
+    made = []
+    at = 0
+    while at < len(maker.pairs):
+        first, second = maker.pairs[at]
+        for letter, parts in rules.get(first, []):
+            made.append((mode_name(at), letter, Making(other, parts, maker).of_all(second)))
+        at += 1
+    return Turning(_in_order(made), mode)
+
+
+class PairMaker(PartMaker):
+    """Makes parts with pairs of modes, which are named as they are met."""
+
+    def __init__(self):
+        self.pairs = []
+        self.numbers = {}
+
+    def name_of(self, first, second):
+        if (first, second) not in self.numbers:
+            self.numbers[first, second] = len(self.pairs)
+            self.pairs.append((first, second))
+        return mode_name(self.numbers[first, second])
+
+    def gone_to(self, part, mode):
+        return (("go", self.name_of(part[1], mode)),)
+
+
+def mode_name(number):
+    """Name modes a, b, .. z, ba, bb, .. by their numbers."""
+    many = len(NAME_SIGNS)
+    name = NAME_SIGNS[number % many]
+    while number >= many:
+        number = number // many
+        name = NAME_SIGNS[number % many] + name
+    return name
+
+
+def _rules_by_mode(turning):
+    """Give each mode with rules the list of its letters and their parts."""
+    rules = {}
+    for mode, letter, parts in turning.rules:
+        rules.setdefault(mode, []).append((letter, parts))
+    return rules
+
+
+def _in_order(rules):
+    return tuple(sorted(rules, key=lambda rule: (rule[0], rule[1])))
+
+
+def composed_all(turnings):
+    made = turnings[0]
+    for turning in turnings[1:]:
+        made = composed(made, turning)
+    return made
+
+
+def keeping(names):
+    rules = [("a", "", (("keep",),))]
+    for name in sorted(set(names)):
+        rules.append(("a", name, (("node", name, (("go", "a"),)),)))
+    return Turning(tuple(rules), "a")
+
+
+def lean(turning):
+    rules = _rules_by_mode(turning)
+    lots = _lots(rules, _met(turning.mode, lambda mode: _goes_on(rules.get(mode, []))))
+    counting = {lots[mode]: _counting(rules, mode, lots) for mode in lots}
+    order = _met(lots[turning.mode], lambda lot: [lots[after] for after in _goes_on(counting[lot])])
+    names = {lot: mode_name(at) for at, lot in enumerate(order)}
+    named = {other: names[lots[other]] for other in lots}
+    made = [(names[lot], letter, _renamed(parts, named)) for lot in order for letter, parts in counting[lot]]
+    return Turning(_in_order(made), mode_name(0))
+
+
+def _goes_on(rows):
+    """List the modes to which rules of one mode go, as they are read."""
+    return [mode for _, parts in rows for mode in goes_within(parts)]
+
+
+def _met(first, after):
+    """List what is met from a first thing on, after(thing) being what each leads to."""
+    queue = [first]
+    met = {first: True}
+    at = 0
+    while at < len(queue):
+        for other in after(queue[at]):
+            if other not in met:
+                met[other] = True
+                queue.append(other)
+        at += 1
+    return queue
+
+
+def _lots(rules, modes):
+    """Give each of some modes the number of its lot: the fewest lots, parted until nothing parts them more."""
+    lots = {mode: 0 for mode in modes}
+    many = 0
+    while many < max(list(lots.values())) + 1:
+        many = max(list(lots.values())) + 1
+        found = numbered([(lots[mode], _signature(rules, mode, lots)) for mode in modes])
+        lots = {mode: lot for mode, lot in zip(modes, found)}
+    return lots
+
+
+def _signature(rules, mode, lots):
+    """Tell the rules of a mode that count, up to modes of one lot."""
+    named = {other: str(lots[other]) for other in lots}
+    return tuple([(letter, parts_text(_renamed(parts, named))) for letter, parts in _counting(rules, mode, lots)])
+
+
+def _counting(rules, mode, lots):
+    return [(letter, parts) for letter, parts in rules.get(mode, []) if _counts(letter, parts, lots, mode)]
+
+
+def _counts(letter, parts, lots, mode):
+    if letter == "":
+        return len(parts) > 0
+    return len(parts) != 1 or parts[0][0] != "go" or lots[parts[0][1]] != lots[mode]
+
+
+def _renamed(parts, named):
+    """Make the same parts with other names of modes."""
+    return tuple(parts_worked_out(parts, lambda part, inner: _renamed_above(part, inner, named)))
+
+
+def _renamed_above(part, inner, named):
+    if part[0] == "node":
+        return ("node", part[1], tuple(inner))
+    return ("go", named[part[1]]) if part[0] == "go" else part
