@@ -6,6 +6,9 @@ from turnsfit.turnings import Turning
 from turnsfit.turningtext import parts_text
 from turnsfit.words import NAME_SIGNS
 
+# The text of parts that are one "go", without its mode.
+GO_ALONE = "!"
+
 
 def composed(one, other):
     rules = _rules_by_mode(one)
@@ -76,16 +79,18 @@ def keeping(names):
 
 def lean(turning):
     rules = _rules_by_mode(turning)
-    lots = _lots(rules, _met(turning.mode, lambda mode: _goes_on(rules.get(mode, []))))
-    counting = {lots[mode]: _counting(rules, mode, lots) for mode in lots}
-    order = _met(lots[turning.mode], lambda lot: [lots[after] for after in _goes_on(counting[lot])])
+    modes = _met(turning.mode, lambda mode: _modes_in(rules.get(mode, [])))
+    shapes = {mode: _shapes(rules.get(mode, [])) for mode in modes}
+    lots = _lots(shapes)
+    counting = {lots[mode]: _counting(shapes[mode], lots[mode], lots) for mode in modes}
+    order = _met(lots[turning.mode], lambda lot: [lots[after] for row in counting[lot] for after in row[2]])
     names = {lot: mode_name(at) for at, lot in enumerate(order)}
     named = {other: names[lots[other]] for other in lots}
-    made = [(names[lot], letter, _renamed(parts, named)) for lot in order for letter, parts in counting[lot]]
+    made = [(names[lot], row[0], _renamed(row[3], named)) for lot in order for row in counting[lot]]
     return Turning(_in_order(made), mode_name(0))
 
 
-def _goes_on(rows):
+def _modes_in(rows):
     """List the modes to which rules of one mode go, as they are read."""
     return [mode for _, parts in rows for mode in goes_within(parts)]
 
@@ -104,31 +109,42 @@ def _met(first, after):
     return queue
 
 
-def _lots(rules, modes):
-    """Give each of some modes the number of its lot: the fewest lots, parted until nothing parts them more."""
+def _shapes(rows):
+    """List rules of one mode: the letter, the text but for modes, the modes, and the parts."""
+    found = []
+    for letter, parts in rows:
+        modes = goes_within(parts)
+        found.append((letter, parts_text(_renamed(parts, {mode: "" for mode in modes})), modes, parts))
+    return found
+
+
+def _lots(shapes):
+    """Give each mode the number of its lot: the fewest lots, parted until nothing parts them more."""
+    modes = list(shapes)
     lots = {mode: 0 for mode in modes}
     many = 0
     while many < max(list(lots.values())) + 1:
         many = max(list(lots.values())) + 1
-        found = numbered([(lots[mode], _signature(rules, mode, lots)) for mode in modes])
+        found = numbered([(lots[mode], _signature(shapes[mode], lots[mode], lots)) for mode in modes])
         lots = {mode: lot for mode, lot in zip(modes, found)}
     return lots
 
 
-def _signature(rules, mode, lots):
-    """Tell the rules of a mode that count, up to modes of one lot."""
-    named = {other: str(lots[other]) for other in lots}
-    return tuple([(letter, parts_text(_renamed(parts, named))) for letter, parts in _counting(rules, mode, lots)])
+def _signature(rows, lot, lots):
+    """Tell the rules that count, up to modes of one lot."""
+    return tuple([(letter, text) + tuple([lots[mode] for mode in modes])
+                  for letter, text, modes, _ in _counting(rows, lot, lots)])
 
 
-def _counting(rules, mode, lots):
-    return [(letter, parts) for letter, parts in rules.get(mode, []) if _counts(letter, parts, lots, mode)]
+def _counting(rows, lot, lots):
+    """List the rules that count in modes of a lot."""
+    return [row for row in rows if _counts(row[0], row[1], [lots[mode] for mode in row[2]], lot)]
 
 
-def _counts(letter, parts, lots, mode):
+def _counts(letter, text, after, lot):
     if letter == "":
-        return len(parts) > 0
-    return len(parts) != 1 or parts[0][0] != "go" or lots[parts[0][1]] != lots[mode]
+        return text != ""
+    return text != GO_ALONE or after[0] != lot
 
 
 def _renamed(parts, named):

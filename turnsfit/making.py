@@ -53,6 +53,11 @@ def goes_within(parts):
     return [part[1] for part in all_parts(parts) if part[0] == "go"]
 
 
+def goes_once(parts):
+    """List the modes of all "go", each once."""
+    return sorted(set(goes_within(parts)))
+
+
 class Making:
     """A turning at work on parts, for a maker with the methods joined, node_made, text_made, text_kept and gone_to."""
 
@@ -62,6 +67,7 @@ class Making:
         self.parts = all_parts(parts)
         self.inside = [()] * len(self.parts)
         self.roots = self._numbered_inside()
+        self.goes = {}
         self.made = {}
 
     def _numbered_inside(self):
@@ -84,7 +90,7 @@ class Making:
 
     def of_rule_around(self, rule):
         """Work out what a rule for nodes makes of a node in which the parts stand."""
-        self._prepare(goes_within(rule))
+        self._prepare(goes_once(rule))
         return self._of_rule(rule, -1)
 
     def _prepare(self, modes):
@@ -102,15 +108,18 @@ class Making:
             self.made[number, mode] = self._of_part(number, mode)
 
     def _need(self, queue, met, numbers, modes):
-        for mode in sorted(set(modes)):
+        for mode in modes:
             for number in numbers:
                 if (number, mode) not in met:
                     met[number, mode] = True
                     queue.append((number, mode))
 
     def _modes_inside(self, number, mode):
-        rule = self.rules.get((mode, self._letter(number)))
-        return [mode] if rule is None else goes_within(rule)
+        """List the modes in which the parts within a part are needed."""
+        key = (mode, self._letter(number))
+        if key not in self.goes:
+            self.goes[key] = goes_once(self.rules[key]) if key in self.rules else [mode]
+        return self.goes[key]
 
     def _letter(self, number):
         part = self.parts[number]
@@ -129,7 +138,7 @@ class Making:
 
     def _of_rule(self, rule, number):
         inside = self.roots if number < 0 else self.inside[number]
-        gone = {mode: self._of_numbers(inside, mode) for mode in sorted(set(goes_within(rule)))}
+        gone = {mode: self._of_numbers(inside, mode) for mode in goes_once(rule)}
         return self.maker.joined(parts_worked_out(rule, lambda part, inner: self._of_own(part, inner, number, gone)))
 
     def _of_own(self, part, inner, number, gone):
