@@ -155,7 +155,9 @@ class RowTablesTest(Case):
                  ((("z",), ("b",), ("b", "a")), triples), ((None, ("b",), ("b", "a")), triples), (rows, triples[:2]),
                  (rows, triples + ((0, 0, ()),)), (rows, triples + ((0, 2, ()),)), (rows, triples + ((0, 1, ("z",)),)),
                  (rows, ((0, 1, []),) + triples[1:]), (rows, ((False, True, ()),) + triples[1:]), (rows, triples + (None,)),
-                 (rows, triples + ((0, 1),)), (rows, triples + ((0, 3, ()),)), (rows, triples + ([0, 1, ()],)))
+                 (rows, triples + ((0, 1),)), (rows, triples + ((0, 3, ()), (1, 3, ()))),
+                 (rows, triples + ((1, 3, ()),)), (rows, triples + ((3, 1, ()),)), (rows, triples + ((1, None, ()),)),
+                 (rows, triples + ([0, 1, ()],)))
         for value in wrong:
             self.assertIs(check_least(table, value), False, value)
         for value in odd_values():

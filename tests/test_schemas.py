@@ -32,7 +32,8 @@ class SchemasTest(Case):
 
     def test_wrong_schemas(self):
         a, b, c = (("a", "x", NONE), ("b", "x", ("text",)), ("c", "x", ("one", "z")))
-        wrong = ((None, -1), (((), ()), -1), (Schema([], ()), -1), (Schema(None, ()), -1), (Schema((1,), 5), 0),
+        wrong = ((None, -1), (((), ()), -1), (Schema([], ()), -1), (Schema(None, ()), -1), (Schema((1,), 5), 0), (Schema((("A", "x", NONE),), ()), 0),
+                 (Schema((("", "x", NONE),), ()), 0), (Schema(((1, "x", NONE), a), ()), 0), (Schema((("a", 1, NONE),), ()), 0),
                  (Schema((a, ("b", "x")), ()), 1), (Schema((a, ["b", "x", NONE]), ()), 1), (Schema((a, ("B", "x", NONE)), ()), 1),
                  (Schema((a, ("b", "", NONE)), ()), 1), (Schema((a, ("b", "x", ())), ()), 1), (Schema((b, a), ()), 1),
                  (Schema((a, a), ()), 1), (Schema((a, b, b + (1,)), ()), 2), (Schema((a, b, c), ()), 2),

@@ -80,7 +80,8 @@ def trimmed(schema):
     queue = list(tops)
     at = 0
     while at < len(queue):
-        for kind in letters_of(formulas[queue[at]]):
+        letters = letters_of(formulas[queue[at]])
+        for kind in letters:
             if kind != "" and kind not in met:
                 met[kind] = True
                 queue.append(kind)

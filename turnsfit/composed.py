@@ -101,7 +101,8 @@ def _met(first, after):
     met = {first: True}
     at = 0
     while at < len(queue):
-        for other in after(queue[at]):
+        following = after(queue[at])
+        for other in following:
             if other not in met:
                 met[other] = True
                 queue.append(other)
