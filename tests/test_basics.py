@@ -8,7 +8,8 @@ import pathlib
 import unittest
 
 from tests.helping import Case, nested
-from turnsfit import alive, composed, edits, formulas, marks, nodes, places, rowtables, schemas, spots, tables, turnings
+from turnsfit import (alive, bearings, composed, doubled, edits, effects, fitting, formulas, frames, growth, leasttables,
+                      marks, merging, nodes, places, rowmends, rowtables, schemas, spots, tables, turnings)
 from turnsfit.formulatext import read_formula
 from turnsfit.schematext import read_schema
 from turnsfit.turningtext import read_turning
@@ -44,10 +45,27 @@ INTERFACE = {
                  " within(one,other) least_paper(table) check_least(table,value)",
     "tables": "Table(names,begins,texts,steps,ends) need_table(value) is_table(value) state_behind(table,state,forest)"
               " state_of(table,node) takes(table,node) table_of(schema,names)",
+    "frames": "is_frame(value) frame_at(node,place) framed(frame,thing) frame_place(frame)",
+    "growth": "fruit(turning,mode) uses(turning,node,place) growing(turning) check_growing(turning,value)"
+              " most_uses(turning) size_factor(turning) burst(turning,times)",
+    "merging": "moved(place,edit) edit_behind(edit,other) do_clash(one,other) first_clash(ones,others)"
+               " both_ways(ones,others) merged(node,ones,others)",
+    "rowmends": "row_prices(table,drops,puts,keeps) row_cost(table,drops,puts,keeps) row_steps(table,drops,puts,keeps)"
+                " check_prices(table,drops,puts,keeps,value)",
+    "fitting": "check_giving(schema,node,value) check_typing(schema,node,value) chosen_row(formula,lots)"
+               " types_over(schema,name,lots) lot_of_thing(schema,thing) types_of(schema,node) fits(schema,node)"
+               " giving_of(schema,node,kind) typings_of(schema,node,most) typing_of(schema,node)",
+    "leasttables": "least_states(table) least_table(schema) state_nodes(table)",
+    "streaming": "Reader(schema)",
+    "effects": "both_effects(one,other) effect_of(table,forest) is_one_taken(table,effect)",
+    "bearings": "made_names(turning) goal_table(turning,schema) no_bearing(turning,table) text_bearing(turning,table)"
+                " node_bearing(turning,table,name,bearing) both_bearings(one,other) bearing_of(turning,table,forest)",
+    "doubled": "two_typings(schema) single_paper(schema) check_single(schema,value)",
     "errors": "FitError InvalidNode(at) InvalidPlace(at) InvalidFormula(at) InvalidSchema(at) InvalidTable(at)"
               " InvalidTurning(at) InvalidEdit(at) InvalidAsk(at) InvalidText(at) InvalidSize(word) InvalidCommand"
               " Refused(word) NoName(name)",
 }
+METHODS = {("streaming", "Reader"): "read(mark) types_now() twin()"}
 FOLDER = pathlib.Path(__file__).resolve().parent.parent / "turnsfit"
 NODE = ("doc", ("hi", ("b", ())))
 FORMULA = read_formula("([a b]* # c?)")
@@ -65,7 +83,18 @@ CALLS = (
     (marks.place_behind, [("open", "a")]), (alive.lessened, FORMULA, ["a"]), (alive.order_paper, SCHEMA),
     (turnings.turned, TURNING, NODE), (turnings.origins, TURNING, NODE), (turnings.modes_of, TURNING),
     (edits.undoing_all, NODE, [("drop", (), 0)]), (edits.edits_between, NODE, ("a", ())),
-    (edits.all_done, NODE, [("drop", (), 0), ("name", (), "a")]))
+    (edits.all_done, NODE, [("drop", (), 0), ("name", (), "a")]),
+    (frames.frame_at, NODE, (1,)), (frames.frame_place, (("a", ("",), ()),)), (frames.framed, (("a", ("",), ()),), "x"),
+    (fitting.chosen_row, FORMULA, [["a", "b"], ("",)]), (fitting.types_over, SCHEMA, "y", [["", "b"]]),
+    (fitting.types_of, SCHEMA, ("y", ("",))), (fitting.typings_of, SCHEMA, ("x", (("y", ("",)),)), 5),
+    (doubled.two_typings, read_schema("a, a x [b c], b y -, c y -")), (doubled.single_paper, SCHEMA),
+    (leasttables.state_nodes, TABLE), (effects.effect_of, TABLE, ("",)), (effects.both_effects, [1, 0, 1], [0, 1, 2]),
+    (bearings.made_names, TURNING), (bearings.both_bearings, [[1, 0, 1]], [[0, 1, 2]]), (growth.fruit, TURNING, "b"),
+    (bearings.bearing_of, TURNING, tables.table_of(SCHEMA, ("item", "list")), NODE[1]), (growth.growing, read_turning("a, a # *, a x !a !a")),
+    (growth.burst, read_turning("a, a # *, a x !a !a"), 3), (merging.moved, (1,), ("drop", (), 0)),
+    (merging.both_ways, [("drop", (), 0)], [("name", (1,), "c")]), (merging.merged, NODE, [("drop", (), 0)], [("name", (1,), "c")]),
+    (rowmends.row_prices, ROWS, [1, 2], [1, 1, None, 2], [[0, None, None, None], [None, 0, 0, 0]]),
+    (rowmends.row_steps, ROWS, [1, 2], [1, 1, None, 2], [[0, None, None, None], [None, 0, 0, 0]]))
 
 
 def attributes(value):
@@ -93,6 +122,14 @@ class BasicsTest(Case):
                     for one in parameters:
                         self.assertEqual((one.kind, one.default), (one.POSITIONAL_OR_KEYWORD, one.empty), (module, name))
 
+    def test_methods(self):
+        for (module, name), text in METHODS.items():
+            told = vars(getattr(importlib.import_module("turnsfit." + module), name))
+            for entry in text.split():
+                method, _, rest = entry.partition("(")
+                parameters = [one for one in ["self"] + rest.rstrip(")").split(",") if one]
+                self.assertEqual(list(inspect.signature(told[method]).parameters), parameters, (name, method))
+
     def test_lists_or_tuples_by_position_or_by_name(self):
         for function, *arguments in CALLS:
             result = function(*arguments)
@@ -111,7 +148,9 @@ class BasicsTest(Case):
     def test_objects_made_hold_tuples(self):
         made = (TABLE, ROWS, SCHEMA, TURNING, composed.composed(TURNING, TURNING), composed.keeping(["a"]),
                 composed.lean(TURNING), alive.trimmed(SCHEMA), rowtables.least_rows(ROWS),
-                rowtables.rows_table(("text",), ["", "a"]), tables.table_of(SCHEMA, ["x"]))
+                rowtables.rows_table(("text",), ["", "a"]), tables.table_of(SCHEMA, ["x"]),
+                leasttables.least_states(tables.Table(["x"], [0], [0], [[0]], [0])), leasttables.least_table(SCHEMA),
+                bearings.goal_table(TURNING, SCHEMA))
         for one in made:
             for value in vars(one).values():
                 self.assertFalse(has_list(value))

@@ -34,7 +34,7 @@ def _nodes_left(value):
         raise InvalidNode(-1)
     left = 1
     for at, mark in enumerate(value):
-        word = _word_of(mark)
+        word = mark_word(mark)
         begins = at == 0 and word == "open"
         if word is None or (not begins and (at == 0 or left == 0)):
             raise InvalidNode(at)
@@ -45,7 +45,7 @@ def _nodes_left(value):
     return left
 
 
-def _word_of(value):
+def mark_word(value):
     """Tell the word of a mark, None for what is none."""
     if not isinstance(value, tuple) or len(value) == 0:
         return None

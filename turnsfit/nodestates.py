@@ -52,13 +52,7 @@ class Growth:
 
     def _fitting(self, lot):
         """List, for each type, the spots at which one of the letters of a lot is read."""
-        found = []
-        for masks in self.masks:
-            fit = 0
-            for letter in lot:
-                fit = fit | masks.by_letter.get(letter, 0)
-            found.append(fit)
-        return found
+        return [masks.fitting(lot) for masks in self.masks]
 
     def finish(self):
         """Find all states, and for each of them the one behind a text and behind each lot."""

@@ -29,33 +29,15 @@ def next_spots(formula):
 
 def trace(formula, row):
     masks = SpotMasks(formula)
-    fit = _fitting(masks, row)
+    ways = masks.ways_on([(letter,) for letter in row])
     spot = masks.start
-    if not _has(fit[0], spot):
+    if not _has(ways[0], spot):
         return None
     found = []
-    for mask in fit[1:]:
-        spot = bits_of(masks.nexts[spot] & mask)[0]
+    for letter, mask in zip(row, ways[1:]):
+        spot = bits_of(masks.nexts[spot] & masks.by_letter[letter] & mask)[0]
         found.append(spot)
     return tuple(found)
-
-
-def _fitting(masks, row):
-    """List, ahead of a row and behind each letter, the spots there from which the rest can be read."""
-    fit = [masks.ends]
-    for letter in row[::-1]:
-        here = fit[-1] & masks.by_letter.get(letter, 0)
-        fit[-1] = here
-        fit.append(_with_next_in(masks, here))
-    return fit[::-1]
-
-
-def _with_next_in(masks, mask):
-    found = 0
-    for spot, following in enumerate(masks.nexts):
-        if following & mask:
-            found = found | (1 << spot)
-    return found
 
 
 def check_trace(formula, row, value):
