@@ -8,8 +8,9 @@ import pathlib
 import unittest
 
 from tests.helping import Case, nested
-from turnsfit import (alive, bearings, composed, doubled, edits, effects, fitting, formulas, frames, growth, leasttables,
-                      marks, merging, nodes, places, rowmends, rowtables, schemas, spots, tables, turnings)
+from turnsfit import (alive, bearings, composed, costs, counting, doubled, edits, effects, facts, fitting, formulas, frames,
+                      goingon, growth, leastnodes, leasttables, lots, marks, mended, merging, nodes, places, refusals, rowmends,
+                      rowsums, rowtables, schemas, spots, tables, turnings)
 from turnsfit.formulatext import read_formula
 from turnsfit.schematext import read_schema
 from turnsfit.turningtext import read_turning
@@ -61,11 +62,30 @@ INTERFACE = {
     "bearings": "made_names(turning) goal_table(turning,schema) no_bearing(turning,table) text_bearing(turning,table)"
                 " node_bearing(turning,table,name,bearing) both_bearings(one,other) bearing_of(turning,table,forest)",
     "doubled": "two_typings(schema) single_paper(schema) check_single(schema,value)",
+    "rowsums": "both_rows(one,other) either_rows(one,other) but_rows(one,other) other_rows(table) rest_rows(table,row)"
+               " formula_of(table) many_rows(table,length) longest(table) row_at(table,number) number_of(table,row)"
+               " many_choices(table,lots) choice(table,lots)",
+    "refusals": "refusal(schema,node) check_refusal(schema,node,value) bar(schema,node)",
+    "goingon": "first_bar(schema,marks) next_marks(schema,marks) going_on(schema,marks)",
+    "leastnodes": "least_node(schema,kind) least_document(schema) sizes_paper(schema) check_sizes(schema,value)"
+                  " largest(schema)",
+    "counting": "many_of_size(schema,size) node_at(schema,number) shape_number(schema,node) shapes_of(schema,size)"
+                " many_typings(schema,node)",
+    "lots": "lots_of(schema,node) wanted_of(schema,node) welcome(schema,node,place,at) would_fit(schema,node,edit)",
+    "kept": "Kept(schema,node)",
+    "costs": "edit_cost(node,edit) edits_cost(node,edits) check_mend(schema,node,value) mend_cost(schema,node,mend)"
+             " mend_made(schema,node,mend) mend_edits(schema,node,mend)",
+    "mended": "node_costs(schema,node) distance(schema,node) least_mend(schema,node) mended(schema,node)"
+              " low_paper(schema,node) check_low(schema,node,value,cost) kept_places(schema,node)"
+              " sure_places(schema,node)",
+    "facts": "facts_of(sheet) all_facts(facts) told_by(facts,word,question)",
     "errors": "FitError InvalidNode(at) InvalidPlace(at) InvalidFormula(at) InvalidSchema(at) InvalidTable(at)"
               " InvalidTurning(at) InvalidEdit(at) InvalidAsk(at) InvalidText(at) InvalidSize(word) InvalidCommand"
               " Refused(word) NoName(name)",
 }
-METHODS = {("streaming", "Reader"): "read(mark) types_now() twin()"}
+METHODS = {("streaming", "Reader"): "read(mark) types_now() twin()",
+           ("kept", "Kept"): "node_now() do(edit) undo() redo() edits_now() lots_now() wanted_now() fits() bars()"
+                             " can(edit) twin()"}
 FOLDER = pathlib.Path(__file__).resolve().parent.parent / "turnsfit"
 NODE = ("doc", ("hi", ("b", ())))
 FORMULA = read_formula("([a b]* # c?)")
@@ -94,6 +114,16 @@ CALLS = (
     (growth.burst, read_turning("a, a # *, a x !a !a"), 3), (merging.moved, (1,), ("drop", (), 0)),
     (merging.both_ways, [("drop", (), 0)], [("name", (1,), "c")]), (merging.merged, NODE, [("drop", (), 0)], [("name", (1,), "c")]),
     (rowmends.row_prices, ROWS, [1, 2], [1, 1, None, 2], [[0, None, None, None], [None, 0, 0, 0]]),
+    (rowsums.choice, ROWS, [["", "a"], ("",)]), (rowsums.many_choices, ROWS, [["", "a"], ("",)]), (rowsums.formula_of, ROWS),
+    (rowsums.number_of, ROWS, ["a", ""]), (rowsums.row_at, ROWS, 3), (refusals.refusal, SCHEMA, NODE), (refusals.bar, SCHEMA, NODE),
+    (goingon.next_marks, SCHEMA, [("open", "x")]), (goingon.going_on, SCHEMA, [("open", "x"), ("open", "y")]),
+    (goingon.first_bar, SCHEMA, [("open", "x"), ("text", "")]), (leastnodes.least_document, SCHEMA), (leastnodes.sizes_paper, SCHEMA),
+    (counting.shapes_of, SCHEMA, 3), (counting.node_at, SCHEMA, 2), (counting.many_typings, SCHEMA, ("x", (("y", ("",)),))),
+    (lots.lots_of, SCHEMA, NODE), (lots.wanted_of, SCHEMA, ("x", (("y", ("",)),))), (lots.welcome, SCHEMA, ("x", ()), (), 0),
+    (costs.edits_cost, NODE, [("drop", (), 0), ("name", (), "a")]), (costs.mend_edits, SCHEMA, NODE, ("a", (("drop",), ("drop",)))),
+    (costs.mend_made, SCHEMA, NODE, ("a", (("drop",), ("drop",), ("put", "b")))), (mended.node_costs, SCHEMA, NODE),
+    (mended.least_mend, SCHEMA, NODE), (mended.mended, SCHEMA, NODE), (mended.low_paper, SCHEMA, NODE),
+    (mended.kept_places, SCHEMA, NODE), (mended.sure_places, SCHEMA, NODE), (facts.facts_of, ("alive", SCHEMA, ("a",))),
     (rowmends.row_steps, ROWS, [1, 2], [1, 1, None, 2], [[0, None, None, None], [None, 0, 0, 0]]))
 
 
@@ -150,7 +180,8 @@ class BasicsTest(Case):
                 composed.lean(TURNING), alive.trimmed(SCHEMA), rowtables.least_rows(ROWS),
                 rowtables.rows_table(("text",), ["", "a"]), tables.table_of(SCHEMA, ["x"]),
                 leasttables.least_states(tables.Table(["x"], [0], [0], [[0]], [0])), leasttables.least_table(SCHEMA),
-                bearings.goal_table(TURNING, SCHEMA))
+                bearings.goal_table(TURNING, SCHEMA), rowsums.both_rows(ROWS, ROWS), rowsums.other_rows(ROWS),
+                rowsums.rest_rows(rowtables.RowTable(["a"], [[0]], [0]), ["a"]))
         for one in made:
             for value in vars(one).values():
                 self.assertFalse(has_list(value))

@@ -73,7 +73,7 @@ def lot_of_thing(schema, thing):
 
 
 def types_of(schema, node):
-    return SchemaMasks(schema).lot_of(node)
+    return SchemaMasks(schema).lot_of_node(node)
 
 
 def fits(schema, node):

@@ -25,7 +25,7 @@ class LeastGrowth:
         self._ranks = [None] * many
         self._grown = [None] * len(after)
         self._grown_sizes = [None] * len(after)
-        self._ways = [[] for _ in range(many)]
+        self._reading = [[] for _ in range(many)]
         self._waiting = {1: [(state, (name, ())) for name, state in begins]}
         self._note_ways()
         while self._waiting:
@@ -35,7 +35,7 @@ class LeastGrowth:
         for state, pairs in enumerate(self.after):
             for thing, other in pairs:
                 if thing != TEXT:
-                    self._ways[thing].append((state, other))
+                    self._reading[thing].append((state, other))
 
     def _go_on(self, size):
         """Settle all states and sorts whose least nodes have a size."""
@@ -48,7 +48,7 @@ class LeastGrowth:
                 elif self.sizes[thing] is not None and self.sizes[thing] < size:
                     self._wait(size + self.sizes[thing], state, thing, other)
         for sort in found:
-            for state, other in self._ways[sort]:
+            for state, other in self._reading[sort]:
                 if self._grown[state] is not None:
                     self._wait(self._grown_sizes[state] + size, state, sort, other)
 

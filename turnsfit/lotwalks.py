@@ -1,7 +1,7 @@
 """Documents walked with the types of a schema: from below, the lots of all things."""
 
 from turnsfit.nodes import all_things
-from turnsfit.spotmasks import SpotMasks
+from turnsfit.spotmasks import SpotMasks, bits_of
 from turnsfit.stacks import taken
 
 TEXT_LOT = ("",)
@@ -36,9 +36,36 @@ class SchemaMasks:
             found.append(lot)
         return found[::-1]
 
-    def lot_of(self, node):
+    def wanted_inside(self, kinds, lots):
+        """List for each thing of a row with some lots the letters there that one of some types spells with the rest."""
+        found = [{} for _ in lots]
+        for kind in kinds:
+            masks = self.masks[kind]
+            ways = masks.ways_on(lots)
+            mask = 1 << masks.start
+            for lot, rest, letters in zip(lots, ways[1:], found):
+                _note_letters(letters, masks, masks.behind(mask) & rest)
+                mask = masks.read_lots(mask, (lot,))
+        return [tuple(sorted(letters)) for letters in found]
+
+    def welcome_inside(self, kinds, lots, at):
+        """Tell the letters of one more thing, put ahead of that with a number, that one of some types spells."""
+        found = {}
+        for kind in kinds:
+            masks = self.masks[kind]
+            mask = masks.read_lots(1 << masks.start, lots[:at])
+            _note_letters(found, masks, masks.behind(mask) & masks.ways_on(lots[at:])[0])
+        return tuple(sorted(found))
+
+    def lot_of_node(self, node):
         """Tell the types of all givings of a node."""
         return self.lots_below(all_things((node,)))[0]
+
+
+def _note_letters(letters, masks, mask):
+    """Note the letters at spots in a dict."""
+    for spot in bits_of(mask):
+        letters[masks.letters[spot]] = True
 
 
 def numbers_inside(things):

@@ -12,7 +12,7 @@ class ModeWays:
         self.goes = {(mode, letter): goes_within(parts) for mode, letter, parts in turning.rules if letter != ""}
         self.names = sorted({letter for _, letter in self.goes})
 
-    def after(self, mode, name):
+    def modes_after(self, mode, name):
         """List the modes to which a node with a name leads from a mode, as often as there are ways."""
         return self.goes.get((mode, name), [mode])
 
@@ -20,7 +20,7 @@ class ModeWays:
         """Count the ways to each mode behind a node with a name, from those counted ahead of it."""
         found = {}
         for mode, count in counts.items():
-            for other in self.after(mode, name):
+            for other in self.modes_after(mode, name):
                 found[other] = found.get(other, 0) + count
         return found
 
@@ -40,7 +40,7 @@ class ModeWays:
             mode = queue[at]
             at += 1
             for name in self.names:
-                for other in self.after(mode, name):
+                for other in self.modes_after(mode, name):
                     if other in kept and other not in found:
                         found[other] = found[mode] + (name,)
                         queue.append(other)
@@ -70,15 +70,15 @@ class ModeWays:
 
     def _steps(self, state, name, kept):
         """List the states behind a node with a name: three walks' modes, and whether the first two have parted."""
-        firsts = list(enumerate(self.after(state[0], name)))
-        seconds = list(enumerate(self.after(state[1], name)))
+        firsts = list(enumerate(self.modes_after(state[0], name)))
+        seconds = list(enumerate(self.modes_after(state[1], name)))
         found = {}
         for way, first in firsts:
             for other_way, second in seconds:
                 parted = state[3] or way != other_way
                 if first not in kept or second not in kept:
                     continue
-                for third in self.after(state[2], name):
+                for third in self.modes_after(state[2], name):
                     if third in kept:
                         found[first, second, third, parted] = True
         return list(found)

@@ -22,7 +22,7 @@ class Growth:
         self.states = []
         self.lot_numbers = {}
         self.lots = []
-        self.fitting = []
+        self.lot_fitting = []
         self.text_fitting = self._fitting(("",))
         self.lot_of = []
         self.after_text = []
@@ -47,7 +47,7 @@ class Growth:
         if lot not in self.lot_numbers:
             self.lot_numbers[lot] = len(self.lots)
             self.lots.append(lot)
-            self.fitting.append(self._fitting(lot))
+            self.lot_fitting.append(self._fitting(lot))
         return self.lot_numbers[lot]
 
     def _fitting(self, lot):
@@ -71,7 +71,7 @@ class Growth:
         if len(self.after_text) == at:
             self.after_text.append(self._number_behind(following, self.text_fitting))
         while len(after) < len(self.lots):
-            after.append(self._number_behind(following, self.fitting[len(after)]))
+            after.append(self._number_behind(following, self.lot_fitting[len(after)]))
 
     def _following(self, state):
         """List, for each type, the spots right behind those of a state."""
