@@ -33,7 +33,8 @@ class NodePrices:
         self.walks[at] = []
         self.costs[at] = []
         for number, triple in enumerate(self.schema.types):
-            walk = PriceWalk(self.tables[number], self.drops_inside(at), self.puts[number], self.keeps_inside(at, number))
+            keeps = self.keeps_inside(at, number)
+            walk = PriceWalk(self.tables[number], self.drops_inside(at), self.puts[number], keeps)
             end = walk.best_end()
             more = 0 if triple[1] == self.things[at][0] else 1
             self.walks[at].append(walk)
@@ -143,7 +144,7 @@ def _plus(cost, price, best):
 
 
 def _prices_behind(table, drops, puts, keeps):
-    """List for each number of things, and each state, the least cost of steps from there to an end; None without any."""
+    """List for each number of things and each state the least cost of steps to an end, None if there are none."""
     rows = [_put_ahead(table, puts, [0 if state in table.ends else None for state in range(len(table.nexts))])]
     for drop, row in zip(drops[::-1], keeps[::-1]):
         found = []
@@ -162,7 +163,8 @@ def _put_ahead(table, puts, prices):
     while changed:
         changed = False
         for state, after in enumerate(table.nexts):
-            known = [cost + prices[other] for other, cost in zip(after, puts) if cost is not None and prices[other] is not None]
+            known = [cost + prices[other] for other, cost in zip(after, puts)
+                     if cost is not None and prices[other] is not None]
             if known and (prices[state] is None or min(known) < prices[state]):
                 prices[state] = min(known)
                 changed = True

@@ -56,15 +56,15 @@ class ShapeWalk:
     def _choices(self, place, size):
         """List the marks that may come next, each with how many shapes go on with it, and the place then."""
         if place is None:
-            begin = Place(None, self.top, None, size)
-            return [(("open", name), self._many_open(name, size), begin.within(self.top, self.counts.begins[name], size - 1))
-                    for name in self.counts.names]
+            return [self._opening(name, size) for name in self.counts.names]
         return place.choices()
 
-    def _many_open(self, name, size):
+    def _opening(self, name, size):
+        """Tell the first mark of shapes with a name, how many they are, and the place behind it."""
         begin = self.counts.begins[name]
         self.top.prepare(begin, size - 1)
-        return self.top.many_from(begin, size - 1)
+        outer = Place(None, self.top, None, size)
+        return (("open", name), self.top.many_from(begin, size - 1), outer.within(self.top, begin, size - 1))
 
 
 class Place:
@@ -86,7 +86,8 @@ class Place:
         counts = self.node.counts
         text = counts.texts[self.state]
         if text is not None and self.left > 0:
-            found.append((TEXT, self.node.rows[text][self.left - 1], Place(self.around, self.node, text, self.left - 1)))
+            after = Place(self.around, self.node, text, self.left - 1)
+            found.append((TEXT, self.node.rows[text][self.left - 1], after))
         for name in counts.names:
             many = self.node.with_node(self.state, name, self.left)
             if many > 0:
