@@ -30,7 +30,7 @@ def _in_order_met(table):
         at += 1
     begins = tuple([numbers[state] for state in table.begins])
     texts = tuple([numbers[table.texts[state]] for state in order])
-    steps = tuple([tuple([numbers[table.steps[state][other]] for other in order]) for state in order])
+    steps = tuple([tuple([numbers[table.steps[state][child]] for child in order]) for state in order])
     ends = tuple(sorted([numbers[state] for state in table.ends if state in numbers]))
     return Table(tuple(table.names), begins, texts, steps, ends)
 

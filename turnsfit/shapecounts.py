@@ -27,7 +27,7 @@ class ShapeCounts:
         self.columns = [columns[first] for first in firsts_of(self.sort_of)]
         self.steps = [[(sort, column[state]) for sort, column in enumerate(self.columns) if column[state] is not None]
                       for state in self.states]
-        self.behind = [self._states_behind(state) for state in self.states]
+        self.states_later = [self._states_behind(state) for state in self.states]
         self.size = 0
         self.by_state = {name: [{} for _ in states] for name in self.names}
         self.by_sort = {name: [{} for _ in self.columns] for name in self.names}
@@ -129,7 +129,7 @@ class OpenNode:
         # What is left gets less with each thing, so nothing is asked that is
         # not counted yet; a node within this one asks for no more than this.
         for left in range(most + 1):
-            for other in self.counts.behind[state]:
+            for other in self.counts.states_later[state]:
                 if len(self.rows[other]) == left:
                     self.rows[other].append(self.many_from(other, left))
 

@@ -136,8 +136,8 @@ class FewSpots(SpotMasks):
         SpotMasks.__init__(self, formula)
         classes = self._classes()
         firsts = firsts_of(classes)
-        self.nexts = [self._mask_of([classes[spot] for spot in bits_of(self.nexts[first])]) for first in firsts]
-        self.ends = self._mask_of([classes[spot] for spot in bits_of(self.ends)])
+        self.nexts = [self._mask_of([classes[other] for other in bits_of(self.nexts[first])]) for first in firsts]
+        self.ends = self._mask_of([classes[other] for other in bits_of(self.ends)])
         self.letters = [self.letters[first] for first in firsts[:-1]]
         self.start = len(self.letters)
         self.by_letter = {}
