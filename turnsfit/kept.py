@@ -81,19 +81,17 @@ class Kept:
         return names
 
     def undo(self):
-        if not self._past:
-            return False
-        edit, node, judged = self._past.pop()
-        self._later.append((edit, self._node, self._judged))
-        self._node = node
-        self._judged = judged
-        return True
+        return self._go_back(self._past, self._later)
 
     def redo(self):
-        if not self._later:
+        return self._go_back(self._later, self._past)
+
+    def _go_back(self, gone, ahead):
+        """Go to the last of what is gone, from where one can come back; tell whether there was any."""
+        if not gone:
             return False
-        edit, node, judged = self._later.pop()
-        self._past.append((edit, self._node, self._judged))
+        edit, node, judged = gone.pop()
+        ahead.append((edit, self._node, self._judged))
         self._node = node
         self._judged = judged
         return True

@@ -9,19 +9,21 @@ class ModeWays:
 
     def __init__(self, turning):
         self.modes = modes_of(turning)
-        self.goes = {(mode, letter): goes_within(parts) for mode, letter, parts in turning.rules if letter != ""}
+        self.goes = {(mode, letter): _counted(goes_within(parts))
+                     for mode, letter, parts in turning.rules if letter != ""}
         self.names = sorted({letter for _, letter in self.goes})
 
     def modes_after(self, mode, name):
-        """List the modes to which a node with a name leads from a mode, as often as there are ways."""
-        return self.goes.get((mode, name), [mode])
+        """Give each mode to which a node with a name leads from a mode the number of ways."""
+        return self.goes.get((mode, name), {mode: 1})
 
     def counts_behind(self, counts, name):
         """Count the ways to each mode behind a node with a name, from those counted ahead of it."""
         found = {}
         for mode, count in counts.items():
-            for other in self.modes_after(mode, name):
-                found[other] = found.get(other, 0) + count
+            after = self.modes_after(mode, name)
+            for other, ways in after.items():
+                found[other] = found.get(other, 0) + count * ways
         return found
 
     def counts_along(self, counts, names):
@@ -70,18 +72,21 @@ class ModeWays:
 
     def _steps(self, state, name, kept):
         """List the states behind a node with a name: three walks' modes, and whether the first two have parted."""
-        firsts = list(enumerate(self.modes_after(state[0], name)))
-        seconds = list(enumerate(self.modes_after(state[1], name)))
+        after = [self._kept_after(mode, name, kept) for mode in state[:3]]
         found = {}
-        for way, first in firsts:
-            for other_way, second in seconds:
-                parted = state[3] or way != other_way
-                if first not in kept or second not in kept:
-                    continue
-                for third in self.modes_after(state[2], name):
-                    if third in kept:
-                        found[first, second, third, parted] = True
+        for first in sorted(after[0]):
+            for second in sorted(after[1]):
+                for third in sorted(after[2]):
+                    if state[3] or first == second:
+                        found[first, second, third, state[3]] = True
+                    if first != second or after[0][first] > 1:
+                        found[first, second, third, True] = True
         return list(found)
+
+    def _kept_after(self, mode, name, kept):
+        """Give each mode of a dict to which a node with a name leads from a mode the number of ways."""
+        after = self.modes_after(mode, name)
+        return {other: after[other] for other in after if other in kept}
 
     def most_counts(self, first, kept):
         """List counts of ways to modes of a dict behind some names; none that is not listed is more than all listed.
@@ -100,6 +105,13 @@ class ModeWays:
                     best = [known for known in best if not _covers(after, known)] + [after]
                     queue.append(after)
         return best
+
+
+def _counted(modes):
+    counts = {}
+    for mode in modes:
+        counts[mode] = counts.get(mode, 0) + 1
+    return counts
 
 
 def _covers(counts, others):
