@@ -20,6 +20,7 @@ class Following:
         self.queue = []
         self.by_place = {}
         self.documents = {}
+        self.made = {}
         for word, question, answer in facts:
             numbers = self._numbers(word, question)
             if word in ("fits", "cost"):
@@ -124,6 +125,9 @@ class Following:
 
     def _make(self, turning, document, schema):
         """Add that what is made of a document fits, if a given fact told of the document."""
-        if document in self.documents:
-            made = made_document(self.things[turning], self.things[document])
-            self._add("fits", (schema, self._number_of(made)), True)
+        if document not in self.documents:
+            return
+        key = (turning, document)
+        if key not in self.made:
+            self.made[key] = self._number_of(made_document(self.things[turning], self.things[document]))
+        self._add("fits", (schema, self.made[key]), True)
