@@ -8,9 +8,10 @@ import pathlib
 import unittest
 
 from tests.helping import Case, nested
-from turnsfit import (alive, bearings, composed, costs, counting, doubled, edits, effects, facts, fitting, formulas, frames,
-                      goingon, growth, leastnodes, leasttables, lots, marks, mended, merging, nodes, places, refusals, rowmends,
-                      rowsums, rowtables, schemas, spots, tables, turnings)
+from turnsfit import (alive, backwards, bearings, chains, commands, composed, costs, counting, doubled, edits, effects, facts,
+                      fitting, formulas, frames, goingon, growth, house, houseruns, joined, judged, leastnodes, leasttables, lots,
+                      marks, mended, merging, nodes, places, refusals, rowmends, rowsums, rowtables, schemas, spots, statepapers,
+                      swaps, tables, tablesums, turnings)
 from turnsfit.formulatext import read_formula
 from turnsfit.schematext import read_schema
 from turnsfit.turningtext import read_turning
@@ -79,13 +80,27 @@ INTERFACE = {
               " low_paper(schema,node) check_low(schema,node,value,cost) kept_places(schema,node)"
               " sure_places(schema,node)",
     "facts": "facts_of(sheet) all_facts(facts) told_by(facts,word,question)",
+    "statepapers": "state_through(table,state,frame) state_paper(table) check_states(table,value)"
+                   " parting_frame(table,node,other)",
+    "swaps": "moves(table,row) all_moves(table) surroundings(table,one,other) returns(table,row)",
+    "tablesums": "widened(table,names) both_tables(one,other) either_tables(one,other) but_tables(one,other)"
+                 " other_table(table) parting_node(one,other) parting(schema,other) schema_of(table)",
+    "joined": "either_of(one,other) both_of(one,other) but_not(one,other) all_but(schema,names) is_within(one,other)",
+    "backwards": "led_table(turning,schema,names) led_into(turning,schema,names) one_made(turning,names)",
+    "judged": "Leads(marks) Breaks(node,place) verdict(turning,schema,other) check_verdict(turning,schema,other,value)",
+    "house": "House()",
+    "chains": "made_along(turnings,node) first_break(turnings,schemas)",
+    "commands": "call_line(call) read_call(value)",
+    "houseruns": "run(calls) parts_of_link(house,name) house_paper(house) check_house_paper(house,value)",
     "errors": "FitError InvalidNode(at) InvalidPlace(at) InvalidFormula(at) InvalidSchema(at) InvalidTable(at)"
               " InvalidTurning(at) InvalidEdit(at) InvalidAsk(at) InvalidText(at) InvalidSize(word) InvalidCommand"
               " Refused(word) NoName(name)",
 }
 METHODS = {("streaming", "Reader"): "read(mark) types_now() twin()",
            ("kept", "Kept"): "node_now() do(edit) undo() redo() edits_now() lots_now() wanted_now() fits() bars()"
-                             " can(edit) twin()"}
+                             " can(edit) twin()",
+           ("house", "House"): "do(call) why_now() names_now(sort) thing_now(name) made_now(link,document) calls()"
+                               " depth() twin()"}
 FOLDER = pathlib.Path(__file__).resolve().parent.parent / "turnsfit"
 NODE = ("doc", ("hi", ("b", ())))
 FORMULA = read_formula("([a b]* # c?)")
@@ -93,6 +108,11 @@ SCHEMA = read_schema("a, a x b*, b y [# c], c y (c)")
 TURNING = read_turning('a, a # *, a doc list(!b), b b item(!a) "s"')
 TABLE = tables.table_of(SCHEMA, ("x", "y"))
 ROWS = rowtables.rows_table(FORMULA, ("", "a", "b", "c"))
+LEAST = leasttables.least_table(SCHEMA)
+OTHER = read_schema("a, a x b+, b y #")
+KEEPING = composed.keeping(["x", "y"])
+HOUSE = house.House()
+HOUSE.do(("batch", (("schema", "s", OTHER.types, OTHER.tops), ("turning", "t", KEEPING.rules, KEEPING.mode), ("link", "link", "t", "s", "s"))))
 CALLS = (
     (nodes.size_of, NODE), (nodes.shape_of, NODE), (nodes.least_of, [NODE, "x"]), (places.places_of, NODE),
     (places.replaced, NODE, (1,), "x"), (formulas.letters_of, FORMULA), (formulas.filled, FORMULA, [["a", ("text",)]]),
@@ -124,7 +144,13 @@ CALLS = (
     (costs.mend_made, SCHEMA, NODE, ("a", (("drop",), ("drop",), ("put", "b")))), (mended.node_costs, SCHEMA, NODE),
     (mended.least_mend, SCHEMA, NODE), (mended.mended, SCHEMA, NODE), (mended.low_paper, SCHEMA, NODE),
     (mended.kept_places, SCHEMA, NODE), (mended.sure_places, SCHEMA, NODE), (facts.facts_of, ("alive", SCHEMA, ("a",))),
-    (rowmends.row_steps, ROWS, [1, 2], [1, 1, None, 2], [[0, None, None, None], [None, 0, 0, 0]]))
+    (rowmends.row_steps, ROWS, [1, 2], [1, 1, None, 2], [[0, None, None, None], [None, 0, 0, 0]]),
+    (swaps.moves, ROWS, ["a", ""]), (swaps.all_moves, rowtables.rows_table(("text",), [""])), (swaps.returns, ROWS, ["a", ""]),
+    (swaps.surroundings, ROWS, ["a"], [""]), (statepapers.state_paper, LEAST), (statepapers.parting_frame, LEAST, ("y", ()), ("x", ())),
+    (statepapers.state_through, LEAST, 0, (("x", (), ("",)),)), (tablesums.parting_node, LEAST, tablesums.other_table(LEAST)),
+    (tablesums.parting, SCHEMA, OTHER), (joined.is_within, SCHEMA, OTHER), (chains.made_along, [KEEPING, KEEPING], ("x", ("a",))),
+    (commands.call_line, ("batch", (("drop", "a"),))), (commands.read_call, "all drop a; edit b drop 0.1 0"),
+    (houseruns.parts_of_link, HOUSE, "link"))
 
 
 def attributes(value):
@@ -148,7 +174,7 @@ class BasicsTest(Case):
                 self.assertIn(name, defined, module)
                 if rest:
                     parameters = list(inspect.signature(getattr(told, name)).parameters.values())
-                    self.assertEqual([one.name for one in parameters], rest.rstrip(")").split(","), (module, name))
+                    self.assertEqual([one.name for one in parameters], [one for one in rest.rstrip(")").split(",") if one], (module, name))
                     for one in parameters:
                         self.assertEqual((one.kind, one.default), (one.POSITIONAL_OR_KEYWORD, one.empty), (module, name))
 
@@ -181,7 +207,11 @@ class BasicsTest(Case):
                 rowtables.rows_table(("text",), ["", "a"]), tables.table_of(SCHEMA, ["x"]),
                 leasttables.least_states(tables.Table(["x"], [0], [0], [[0]], [0])), leasttables.least_table(SCHEMA),
                 bearings.goal_table(TURNING, SCHEMA), rowsums.both_rows(ROWS, ROWS), rowsums.other_rows(ROWS),
-                rowsums.rest_rows(rowtables.RowTable(["a"], [[0]], [0]), ["a"]))
+                rowsums.rest_rows(rowtables.RowTable(["a"], [[0]], [0]), ["a"]), tablesums.widened(LEAST, ["w", "x", "y"]),
+                tablesums.both_tables(LEAST, LEAST), tablesums.other_table(LEAST), tablesums.schema_of(LEAST),
+                joined.either_of(SCHEMA, OTHER), joined.both_of(SCHEMA, OTHER), joined.but_not(SCHEMA, OTHER),
+                joined.all_but(SCHEMA, ["x", "y"]), backwards.led_table(KEEPING, OTHER, ["x"]), backwards.led_into(KEEPING, OTHER, ["x"]),
+                backwards.one_made(KEEPING, ["x"]), judged.verdict(KEEPING, OTHER, OTHER), judged.verdict(KEEPING, SCHEMA, OTHER))
         for one in made:
             for value in vars(one).values():
                 self.assertFalse(has_list(value))

@@ -28,3 +28,8 @@ def firsts_of(classes):
         if number == len(firsts):
             firsts.append(at)
     return firsts
+
+
+def column_classes(rows):
+    """List a class for each column of rows as long as there are rows: equal columns are of one class."""
+    return numbered([tuple([row[at] for row in rows]) for at in range(len(rows))])

@@ -4,7 +4,7 @@ from turnsfit.alike import numbered
 from turnsfit.making import Making, PartMaker, goes_within, parts_worked_out
 from turnsfit.turnings import Turning
 from turnsfit.turningtext import parts_text
-from turnsfit.words import NAME_SIGNS
+from turnsfit.words import numbered_name
 
 # The text of parts that are one "go", without its mode.
 GO_ALONE = "!"
@@ -19,7 +19,7 @@ def composed(one, other):
     while at < len(maker.pairs):
         first, second = maker.pairs[at]
         for letter, parts in rules.get(first, []):
-            made.append((mode_name(at), letter, Making(other, parts, maker).of_all(second)))
+            made.append((numbered_name(at), letter, Making(other, parts, maker).of_all(second)))
         at += 1
     return Turning(_in_order(made), mode)
 
@@ -35,20 +35,10 @@ class PairMaker(PartMaker):
         if (first, second) not in self.numbers:
             self.numbers[first, second] = len(self.pairs)
             self.pairs.append((first, second))
-        return mode_name(self.numbers[first, second])
+        return numbered_name(self.numbers[first, second])
 
     def gone_to(self, part, mode):
         return (("go", self.name_of(part[1], mode)),)
-
-
-def mode_name(number):
-    """Name modes a, b, .. z, ba, bb, .. by their numbers."""
-    many = len(NAME_SIGNS)
-    name = NAME_SIGNS[number % many]
-    while number >= many:
-        number = number // many
-        name = NAME_SIGNS[number % many] + name
-    return name
 
 
 def _rules_by_mode(turning):
@@ -84,10 +74,10 @@ def lean(turning):
     lots = _lots(shapes)
     counting = {lots[mode]: _counting(shapes[mode], lots[mode], lots) for mode in modes}
     order = _met(lots[turning.mode], lambda lot: [lots[after] for row in counting[lot] for after in row[2]])
-    names = {lot: mode_name(at) for at, lot in enumerate(order)}
+    names = {lot: numbered_name(at) for at, lot in enumerate(order)}
     named = {other: names[lots[other]] for other in lots}
     made = [(names[lot], row[0], _renamed(row[3], named)) for lot in order for row in counting[lot]]
-    return Turning(_in_order(made), mode_name(0))
+    return Turning(_in_order(made), numbered_name(0))
 
 
 def _modes_in(rows):

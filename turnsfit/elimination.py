@@ -1,4 +1,4 @@
-"""Formulas of the rows that a row table accepts, made by taking its states out one by one."""
+"""Formulas of the rows that lead through states, made by taking the states out one by one."""
 
 EMPTY = ("empty",)
 
@@ -11,20 +11,28 @@ class Elimination:
     greatest one had before.
     """
 
-    def __init__(self, table):
-        self.ahead = len(table.nexts)
-        self.final = self.ahead + 1
-        self.ways = {(self.ahead, 0): EMPTY}
-        for state in table.ends:
-            self.ways[state, self.final] = EMPTY
-        for state, after in enumerate(table.nexts):
-            for letter, other in zip(table.letters, after):
-                self._add(state, other, ("one", letter) if letter != "" else ("text",))
-        self.left = list(range(self.ahead))
+    def __init__(self, walk):
+        many = len(walk.nexts)
+        self.ahead = many
+        self.final = many + 1
+        self.ways = [{} for _ in range(many + 2)]
+        self.into = [{} for _ in range(many + 2)]
+        self.ways[self.ahead][0] = (EMPTY, 0)
+        self.into[0][self.ahead] = True
+        for state, after in enumerate(walk.nexts):
+            if walk.ends[state]:
+                self._add(state, self.final, (EMPTY, 0))
+            for letter, other in after:
+                self._add(state, other, (("one", letter) if letter != "" else ("text",), 1))
+        self.left = list(range(many))
 
-    def _add(self, state, other, formula):
-        known = self.ways.get((state, other))
-        self.ways[state, other] = formula if known is None else _either(known, formula)
+    def _add(self, state, other, way):
+        """Put one more way between two states: a formula and how many letters it has."""
+        known = self.ways[state].get(other)
+        if known is not None:
+            way = (_either(known[0], way[0]), known[1] + way[1])
+        self.ways[state][other] = way
+        self.into[other][state] = True
 
     def formula(self):
         """Take out all states: what is left between the two others, None if there is nothing."""
@@ -32,26 +40,31 @@ class Elimination:
             state = min(self.left, key=self._weight)
             self.left.remove(state)
             self._take_out(state)
-        return self.ways.get((self.ahead, self.final))
+        return self.ways[self.ahead].get(self.final, (None, 0))[0]
 
     def _weight(self, state):
-        """Tell by how many pairs of ways a state is gone through: those with few are taken out first."""
-        return len(self._into(state)) * len(self._out_of(state))
-
-    def _into(self, state):
-        return [pair[0] for pair in self.ways if pair[1] == state and pair[0] != state]
-
-    def _out_of(self, state):
-        return [pair[1] for pair in self.ways if pair[0] == state and pair[1] != state]
+        """Tell how many letters more there are if a state is taken out: those with few are taken out first."""
+        before = [other for other in self.into[state] if other != state]
+        behind = [other for other in self.ways[state] if other != state]
+        loop = self.ways[state].get(state, (EMPTY, 0))[1]
+        ahead = sum([self.ways[other][state][1] for other in before])
+        after = sum([self.ways[state][other][1] for other in behind])
+        return ahead * (len(behind) - 1) + after * (len(before) - 1) + loop * (len(before) * len(behind) - 1)
 
     def _take_out(self, state):
-        before = self._into(state)
-        behind = self._out_of(state)
-        loop = _star(self.ways.get((state, state), EMPTY))
+        before = [other for other in self.into[state] if other != state]
+        behind = [other for other in self.ways[state] if other != state]
+        loop, loop_size = self.ways[state].get(state, (EMPTY, 0))
+        loop = _star(loop)
         for one in before:
+            first, first_size = self.ways[one][state]
             for other in behind:
-                self._add(one, other, _row([self.ways[one, state], loop, self.ways[state, other]]))
-        self.ways = {pair: self.ways[pair] for pair in self.ways if state not in pair}
+                last, last_size = self.ways[state][other]
+                self._add(one, other, (_row([first, loop, last]), first_size + loop_size + last_size))
+        for one in before:
+            del self.ways[one][state]
+        for other in behind:
+            del self.into[other][state]
 
 
 def _row(parts):

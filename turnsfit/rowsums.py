@@ -1,7 +1,7 @@
 """Row tables put together, the formulas of what they accept, and accepted rows by their numbers."""
 
-from turnsfit.elimination import Elimination
 from turnsfit.rowtables import RowTable, accepts, behind, least_rows
+from turnsfit.rowwalks import RowWalk, formula_between
 
 
 def both_rows(one, other):
@@ -50,7 +50,9 @@ def rest_rows(table, row):
 
 
 def formula_of(table):
-    return Elimination(least_rows(table)).formula()
+    least = least_rows(table)
+    ends = [state in least.ends for state in range(len(least.nexts))]
+    return formula_between(RowWalk([list(zip(least.letters, after)) for after in least.nexts], ends))
 
 
 def _counts_to(table, length):

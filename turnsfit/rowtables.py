@@ -57,7 +57,7 @@ def _is_end(table, state):
 
 
 def least_rows(table):
-    found = [state for state, _ in _rows_to(table)]
+    found = [state for state, _ in rows_to(table)]
     numbers = {state: at for at, state in enumerate(found)}
     nexts = [[numbers[other] for other in table.nexts[state]] for state in found]
     is_end = {state: True for state in table.ends}
@@ -71,7 +71,7 @@ def least_rows(table):
     return RowTable(tuple(table.letters), merged, ends)
 
 
-def _rows_to(table):
+def rows_to(table):
     """List the states that rows lead to from 0, each with its shortest, least row, in the order of these."""
     queue = [(0, ())]
     met = {0: True}
@@ -106,17 +106,17 @@ def rows_table(formula, letters):
 
 
 def parting_row(one, other):
-    return _first_row(one, other, (True, True))
+    return first_row(one, other, (True, True), (0, 0))
 
 
 def within(one, other):
-    return _first_row(one, other, (True, False))
+    return first_row(one, other, (True, False), (0, 0))
 
 
-def _first_row(one, other, sides):
-    """Tell the shortest, least row that one table alone accepts, for the tables asked for in sides."""
-    queue = [((0, 0), ())]
-    met = {(0, 0): True}
+def first_row(one, other, sides, begin):
+    """Tell the shortest, least row from two states that one table alone accepts, for the tables asked for in sides."""
+    queue = [(begin, ())]
+    met = {begin: True}
     at = 0
     while at < len(queue):
         (state, second), row = queue[at]
@@ -133,7 +133,7 @@ def _first_row(one, other, sides):
 
 
 def least_paper(table):
-    to_states = {state: row for state, row in _rows_to(table)}
+    to_states = {state: row for state, row in rows_to(table)}
     many = len(table.nexts)
     apart = _rows_apart(table)
     if len(to_states) < many or len(apart) < many * (many - 1) // 2:

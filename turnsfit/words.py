@@ -59,3 +59,13 @@ def are_states(value, length, many):
 def are_ascending_states(value, many):
     """Tell whether any value is an ascending tuple of states."""
     return isinstance(value, tuple) and are_states(value, len(value), many) and ascends(value)
+
+
+def numbered_name(number):
+    """Tell the name with a number: a, b, .. z, ba, bb, .."""
+    many = len(NAME_SIGNS)
+    name = NAME_SIGNS[number % many]
+    while number >= many:
+        number = number // many
+        name = NAME_SIGNS[number % many] + name
+    return name
