@@ -8,10 +8,11 @@ import pathlib
 import unittest
 
 from tests.helping import Case, nested
-from turnsfit import (alive, backwards, bearings, chains, commands, composed, costs, counting, doubled, edits, effects, facts,
-                      fitting, formulas, frames, goingon, growth, house, houseruns, joined, judged, leastnodes, leasttables, lots,
-                      marks, mended, merging, nodes, places, refusals, rowmends, rowsums, rowtables, schemas, spots, statepapers,
-                      swaps, tables, tablesums, turnings)
+from turnsfit import (alive, askings, asks, audit, backwards, bearings, chains, commands, composed, costs, counting, desk,
+                      doubled, edits, effects, exchanges, facts, fitting, formulas, frames, goingon, growth, house, houseruns,
+                      joined, judged, leastnodes, leasttables, lots, marks, mended, merging, nodes, places, pointed, refusals,
+                      rowmends, rowsums, rowtables, schemas, sheets, spots, statepapers, swaps, tables, tablesums, turnings,
+                      walks, wanting, ways)
 from turnsfit.formulatext import read_formula
 from turnsfit.schematext import read_schema
 from turnsfit.turningtext import read_turning
@@ -92,6 +93,18 @@ INTERFACE = {
     "chains": "made_along(turnings,node) first_break(turnings,schemas)",
     "commands": "call_line(call) read_call(value)",
     "houseruns": "run(calls) parts_of_link(house,name) house_paper(house) check_house_paper(house,value)",
+    "walks": "from_below(schema,node) from_both(schema,node) answers(ask,node)",
+    "asks": "Ask(schema,marked) need_ask(value) answers_by(ask,value) check_answer(ask,node,place,value)"
+            " answer_paper(ask,node,place)",
+    "wanting": "wanted_letters(schema,frame) letter_apart(schema,thing,other)",
+    "ways": "way_of(node,place) rivals(schema) is_plain_schema(schema) types_by_way(schema,way) plain_hull(schema)",
+    "exchanges": "exchanged(node,place,other,where) plain_or_exchange(schema) check_exchange(schema,value)",
+    "desk": "Desk() run_lines(lines)",
+    "pointed": "pointed_node(node,place,name) unpointed(node,name) pointed(ask,name) answered(ask)"
+               " answer_beyond(one,other) unanswered(ask) is_idle(ask)",
+    "askings": "either_ask(one,other) both_ask(one,other)",
+    "sheets": "sheet_holds(value)",
+    "audit": "audit(record)",
     "errors": "FitError InvalidNode(at) InvalidPlace(at) InvalidFormula(at) InvalidSchema(at) InvalidTable(at)"
               " InvalidTurning(at) InvalidEdit(at) InvalidAsk(at) InvalidText(at) InvalidSize(word) InvalidCommand"
               " Refused(word) NoName(name)",
@@ -100,7 +113,8 @@ METHODS = {("streaming", "Reader"): "read(mark) types_now() twin()",
            ("kept", "Kept"): "node_now() do(edit) undo() redo() edits_now() lots_now() wanted_now() fits() bars()"
                              " can(edit) twin()",
            ("house", "House"): "do(call) why_now() names_now(sort) thing_now(name) made_now(link,document) calls()"
-                               " depth() twin()"}
+                               " depth() twin()",
+           ("desk", "Desk"): "say(line) said() record()"}
 FOLDER = pathlib.Path(__file__).resolve().parent.parent / "turnsfit"
 NODE = ("doc", ("hi", ("b", ())))
 FORMULA = read_formula("([a b]* # c?)")
@@ -111,6 +125,7 @@ ROWS = rowtables.rows_table(FORMULA, ("", "a", "b", "c"))
 LEAST = leasttables.least_table(SCHEMA)
 OTHER = read_schema("a, a x b+, b y #")
 KEEPING = composed.keeping(["x", "y"])
+ASK, FITTING = asks.Ask(SCHEMA, ("b",)), ("x", (("y", ("",)),))
 HOUSE = house.House()
 HOUSE.do(("batch", (("schema", "s", OTHER.types, OTHER.tops), ("turning", "t", KEEPING.rules, KEEPING.mode), ("link", "link", "t", "s", "s"))))
 CALLS = (
@@ -150,7 +165,13 @@ CALLS = (
     (statepapers.state_through, LEAST, 0, (("x", (), ("",)),)), (tablesums.parting_node, LEAST, tablesums.other_table(LEAST)),
     (tablesums.parting, SCHEMA, OTHER), (joined.is_within, SCHEMA, OTHER), (chains.made_along, [KEEPING, KEEPING], ("x", ("a",))),
     (commands.call_line, ("batch", (("drop", "a"),))), (commands.read_call, "all drop a; edit b drop 0.1 0"),
-    (houseruns.parts_of_link, HOUSE, "link"))
+    (walks.answers, ASK, FITTING), (walks.from_both, SCHEMA, FITTING),
+    (walks.from_below, SCHEMA, NODE), (asks.answers_by, ASK, ("a", (("b", ("",)),))), (asks.answer_paper, ASK, FITTING, (0,)),
+    (wanting.wanted_letters, SCHEMA, (("x", (), ()),)), (ways.way_of, NODE, (1,)), (ways.types_by_way, SCHEMA, ["x", "y"]),
+    (ways.rivals, SCHEMA), (exchanges.exchanged, NODE, (1,), FITTING, ()), (pointed.pointed_node, NODE, (1,), "here"),
+    (pointed.unpointed, ("x", (("y", ()), "a")), "y"), (pointed.answer_beyond, ASK, asks.Ask(SCHEMA, ("c",))),
+    (pointed.unanswered, ASK), (desk.run_lines, ["schema s a, a x -", "empty s", "calls"]),
+    (audit.audit, (("schema s a, a x -", ("did", "done"), ()),)), (sheets.sheet_holds, ("alive", SCHEMA, ("b",))))
 
 
 def attributes(value):
@@ -202,7 +223,7 @@ class BasicsTest(Case):
             self.assertEqual([attributes(one) for one in arguments], before)
 
     def test_objects_made_hold_tuples(self):
-        made = (TABLE, ROWS, SCHEMA, TURNING, composed.composed(TURNING, TURNING), composed.keeping(["a"]),
+        made = houseruns.parts_of_link(HOUSE, "link") + (TABLE, ROWS, SCHEMA, TURNING, composed.composed(TURNING, TURNING), composed.keeping(["a"]),
                 composed.lean(TURNING), alive.trimmed(SCHEMA), rowtables.least_rows(ROWS),
                 rowtables.rows_table(("text",), ["", "a"]), tables.table_of(SCHEMA, ["x"]),
                 leasttables.least_states(tables.Table(["x"], [0], [0], [[0]], [0])), leasttables.least_table(SCHEMA),
@@ -211,7 +232,8 @@ class BasicsTest(Case):
                 tablesums.both_tables(LEAST, LEAST), tablesums.other_table(LEAST), tablesums.schema_of(LEAST),
                 joined.either_of(SCHEMA, OTHER), joined.both_of(SCHEMA, OTHER), joined.but_not(SCHEMA, OTHER),
                 joined.all_but(SCHEMA, ["x", "y"]), backwards.led_table(KEEPING, OTHER, ["x"]), backwards.led_into(KEEPING, OTHER, ["x"]),
-                backwards.one_made(KEEPING, ["x"]), judged.verdict(KEEPING, OTHER, OTHER), judged.verdict(KEEPING, SCHEMA, OTHER))
+                backwards.one_made(KEEPING, ["x"]), ways.plain_hull(SCHEMA), exchanges.plain_or_exchange(SCHEMA)[1],
+                pointed.pointed(ASK, "here"), pointed.answered(ASK), askings.either_ask(ASK, ASK), askings.both_ask(ASK, ASK), judged.verdict(KEEPING, OTHER, OTHER), judged.verdict(KEEPING, SCHEMA, OTHER))
         for one in made:
             for value in vars(one).values():
                 self.assertFalse(has_list(value))

@@ -4,6 +4,7 @@ import itertools
 import unittest
 
 from tests.helping import Case, seeded
+from turnsfit.asks import Ask, answer_paper
 from turnsfit.composed import keeping
 from turnsfit.costs import mend_cost
 from turnsfit.doubled import single_paper, two_typings
@@ -16,6 +17,7 @@ from turnsfit.mended import distance, least_mend, low_paper
 from turnsfit.refusals import refusal
 from turnsfit.schemas import Schema
 from turnsfit.schematext import read_schema, schema_text
+from turnsfit.sheets import sheet_holds
 from turnsfit.tables import Table
 from turnsfit.turnings import Turning, made_document
 from turnsfit.turningtext import read_turning, turning_text
@@ -24,17 +26,6 @@ PLAN = read_schema("doc, doc doc (head [par old]*), head head #, old box (par ol
 FEW = read_schema("doc, doc doc (head head?), head head #")
 NODE = ("doc", (("head", ("x",)),))
 OTHER = ("doc", (("par", ("x",)),))
-
-
-class Asked:
-    """Stands for an ask: facts look at its schema alone."""
-
-    def __init__(self, schema, marked):
-        self.schema = schema
-        self.marked = marked
-
-    def __eq__(self, other):
-        return isinstance(other, Asked) and self.schema == other.schema and self.marked == other.marked
 
 
 def of_lengths(lengths):
@@ -122,7 +113,7 @@ class FactsTest(Case):
             self.assertEqual(facts_of(("costs", (PLAN, told), (mend, low_paper(PLAN, told)))),
                              (("cost", (PLAN, told), distance(PLAN, told)),))
             self.assertEqual(mend_cost(PLAN, told, mend), distance(PLAN, told))
-        ask = Asked(PLAN, ("head",))
+        ask = Ask(PLAN, ("head",))
         self.assertEqual(facts_of(("answer", (ask, NODE, (0,)), typing_of(PLAN, NODE))),
                          (("answer", (ask, NODE, (0,)), True), ("fits", (PLAN, NODE), True)))
 
@@ -154,6 +145,15 @@ class FactsTest(Case):
                          (("leads", (turning, PLAN, FEW), False), ("fits", (PLAN, NODE), True)))
         twice = read_turning("a, a # *, a x !a !a")
         self.assertEqual(facts_of(("growing", twice, growing(twice))), (("growing", twice, True),))
+
+    def test_true_asks(self):
+        ask = Ask(PLAN, ("head", "par"))
+        sheet = ("answer", (ask, NODE, (0,)), answer_paper(ask, NODE, (0,)))
+        self.assertTrue(sheet_holds(sheet))
+        facts = facts_of(sheet)
+        self.assertEqual(facts, (("answer", (ask, NODE, (0,)), True), ("fits", (PLAN, NODE), True)))
+        self.assertEqual((told_by(facts, "empty", PLAN), told_by(facts, "cost", (PLAN, NODE)), told_by(facts, "answer", (Ask(PLAN, ("head", "par")), NODE, (0,))),
+                          told_by(facts, "answer", (Ask(PLAN, ("head",)), NODE, (0,)))), (False, 0, True, None))
 
     def test_rules_one_by_one(self):
         one, other, third = [of_lengths(lengths) for lengths in ((1,), (1, 2), (1, 2, 3))]
@@ -196,15 +196,15 @@ class FactsTest(Case):
                              [True, True, True, None])
 
     def test_none_twice(self):
-        ask = Asked(FEW, ())
+        ask = Ask(FEW, ())
         given = [("fits", (FEW, NODE), True)] * 3 + [("empty", read_schema(schema_text(FEW)), False), ("answer", (ask, NODE, ()), True),
-                                                     ("answer", (Asked(FEW, ()), NODE, ()), True), ("alive", (PLAN, "old"), False)]
+                                                     ("answer", (Ask(FEW, ()), NODE, ()), True), ("alive", (PLAN, "old"), False)]
         told = all_facts(given)
         self.assertEqual([fact[0] for fact in told].count("answer"), 1)
         self.assertEqual(len(told), 5)
         self.assertIsInstance(told, tuple)
         self.assertEqual(all_facts(()), ())
-        self.assertIs(told_by(given, "answer", (Asked(FEW, ()), NODE, ())), True)
+        self.assertIs(told_by(given, "answer", (Ask(FEW, ()), NODE, ())), True)
         self.assertIs(told_by(given, "alive", (PLAN, "old")), False)
 
     def test_against_a_plain_closure(self):

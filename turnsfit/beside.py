@@ -3,7 +3,7 @@
 from turnsfit.alike import numbered
 from turnsfit.alive import trimmed
 from turnsfit.leastgrowth import TEXT
-from turnsfit.nodestates import Growth
+from turnsfit.otherside import OtherSide
 from turnsfit.rowwalks import RowWalk, walk_of
 
 
@@ -16,9 +16,9 @@ class Beside:
     """
 
     def __init__(self, one, other):
-        self.schema = trimmed(one)
-        self.growth = Growth(other)
-        self._walks = {kind: walk_of(formula) for kind, _, formula in self.schema.types}
+        self._schema = trimmed(one)
+        self._other = OtherSide(other)
+        self._walks = {kind: walk_of(formula) for kind, _, formula in self._schema.types}
         self._known = {}
         self._states = []
         self._looked_at = []
@@ -26,8 +26,8 @@ class Beside:
         self.told = []
         self.nexts = []
         self.sorts = []
-        self.begins = [(name, self._number_of((kind, 0, self.growth.begin(name))))
-                       for kind, name, _ in self.schema.types]
+        self.begins = [(name, self._number_of((kind, 0, self._other.begin(name))))
+                       for kind, name, _ in self._schema.types]
         self._finish()
 
     def _number_of(self, state):
@@ -43,7 +43,7 @@ class Beside:
         kind, at, grown = state
         if not self._walks[kind].ends[at]:
             return []
-        sort = (kind, self.growth.lot_of[grown])
+        sort = (kind, self._other.lot(grown))
         if sort not in self._sort_numbers:
             self._sort_numbers[sort] = len(self.told)
             self.told.append(sort)
@@ -63,7 +63,7 @@ class Beside:
         ways = self._walks[kind].nexts[at]
         if self._looked_at[number] is None:
             self._looked_at[number] = 0
-            self._note_behind(number, TEXT, [(kind, after, None) for letter, after in ways if letter == ""])
+            self._note_behind(number, TEXT, [(kind, after, TEXT) for letter, after in ways if letter == ""])
         first = self._looked_at[number]
         self._looked_at[number] = len(self.told)
         left = self.told[first:]
@@ -75,12 +75,12 @@ class Beside:
         """Note for a state which come behind a thing: triples of a type, how far its row is read, and a lot."""
         grown = self._states[number][2]
         for kind, at, lot in found:
-            self.nexts[number].append((thing, self._number_of((kind, at, self.growth.behind(grown, lot)))))
+            self.nexts[number].append((thing, self._number_of((kind, at, self._other.behind(grown, lot)))))
 
     def escaping(self):
         """List the sorts of documents of the first schema that do not fit the other one."""
         return [sort for sort, (kind, lot) in enumerate(self.told)
-                if kind in self.schema.tops and not self.growth.is_top(lot)]
+                if kind in self._schema.tops and lot & self._other.tops == 0]
 
     def sort_classes(self):
         """List a class for each sort: sorts of one class are of one type, escape alike, and are alike as children."""

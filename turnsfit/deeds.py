@@ -97,7 +97,24 @@ def things_behind(things, deed):
     return made
 
 
-def is_as_it_was(before, after, name):
-    """Tell whether a document or a link was there, and all that it belongs to or has is the same."""
+def questions_anew(before, after):
+    """List what is to be judged where not all is as it was: pairs of a name and a question, for documents and links.
+
+    What was there already is right, if nothing that it depends on has changed.
+    """
+    names = [name for name in sorted(after) if not _is_as_it_was(before, after, name)]
+    documents = []
+    links = []
+    for name in names:
+        sort, thing = after[name]
+        if sort == "document":
+            documents.append((name, (after[thing[0]][1], thing[1])))
+        elif sort == "link":
+            links.append((name, tuple([after[other][1] for other in thing])))
+    return (documents, links)
+
+
+def _is_as_it_was(before, after, name):
+    """Tell whether something was there, and all that it belongs to or has is the same."""
     names = (name,) + used_by(after[name])
     return all([other in before and before[other] == after[other] for other in names])

@@ -27,6 +27,14 @@ class Givings:
         self.chosen = [None] * len(self.things)
         self.spots = [0] * len(self.things)
 
+    def narrow(self, number, kinds):
+        """Give the thing with a number just types of some, and the nodes around it those that go with these."""
+        self.lots[number] = tuple([kind for kind in self.lots[number] if kind in kinds])
+        while self.above[number] is not None:
+            number = self.above[number][0]
+            lots = [self.lots[at] for at in self.inside[number]]
+            self.lots[number] = tuple([kind for kind in self.lots[number] if self.masks[kind].spells_over(lots)])
+
     def first(self, most, kinds):
         """List the first so many givings with one of some ascending types of the document."""
         found = []

@@ -1,8 +1,8 @@
 """Schemas put together, and whether all documents of one fit another one."""
 
 from turnsfit.beside import Beside
+from turnsfit.escapes import Escapes
 from turnsfit.formulas import filled
-from turnsfit.leastgrowth import LeastGrowth
 from turnsfit.rowwalks import RowWalk, walk_of
 from turnsfit.schemas import Schema, name_for
 from turnsfit.walkschemas import schema_of_walks
@@ -10,16 +10,16 @@ from turnsfit.words import numbered_name
 
 
 def either_of(one, other):
-    made, tops = side_by_side(one, other)
-    return Schema(made, tuple(sorted([tops[0][kind] for kind in one.tops] + [tops[1][kind] for kind in other.tops])))
+    return united(one, other)[0]
 
 
-def side_by_side(one, other):
-    """Tell the types of two schemas with new names, and a dict of these by the old ones for each."""
+def united(one, other):
+    """Tell a schema of what fits one of two others, and the dicts of the new names of the types of both."""
     first = {kind: numbered_name(at) for at, (kind, _, _) in enumerate(one.types)}
     second = {kind: numbered_name(at + len(first)) for at, (kind, _, _) in enumerate(other.types)}
-    triples = _renamed(one, first) + _renamed(other, second)
-    return (tuple(sorted(triples, key=lambda triple: triple[0])), (first, second))
+    triples = sorted(_renamed(one, first) + _renamed(other, second), key=lambda triple: triple[0])
+    tops = [first[kind] for kind in one.tops] + [second[kind] for kind in other.tops]
+    return (Schema(tuple(triples), tuple(sorted(tops))), (first, second))
 
 
 def _renamed(schema, names):
@@ -92,8 +92,4 @@ def _all_of(names):
 
 
 def is_within(one, other):
-    beside = Beside(one, other)
-    many = len(beside.told)
-    escaping = {sort: True for sort in beside.escaping()}
-    sorts = [row + [many] if row and row[0] in escaping else row for row in beside.sorts]
-    return LeastGrowth(beside.begins, beside.nexts, sorts, many + 1).nodes[many] if escaping else None
+    return Escapes(one, other).least_escape()

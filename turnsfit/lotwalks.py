@@ -77,3 +77,11 @@ def numbers_inside(things):
             inside[at] = taken(waiting, len(things[at][1]))
         waiting.append(at)
     return inside
+
+
+def nested_lots(things, lots):
+    """Tell lots of types nested as a document, for its things and their lots in the order of reading."""
+    made = []
+    for thing, lot in zip(things[::-1], lots[::-1]):
+        made.append("" if isinstance(thing, str) else (tuple(lot), tuple(taken(made, len(thing[1])))))
+    return made[0]

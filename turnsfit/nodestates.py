@@ -27,7 +27,6 @@ class Growth:
         self.lot_of = []
         self.after_text = []
         self.after_lots = []
-        self._known_behind = {}
 
     def begin(self, name):
         """Tell the number of the state of a node with nothing in it."""
@@ -86,13 +85,6 @@ class Growth:
 
     def _number_behind(self, following, fitting):
         return self._number_of(tuple([spots & fit for spots, fit in zip(following, fitting)]))
-
-    def behind(self, at, lot):
-        """Tell the state behind a node with the lot of a number, or behind a text, for None."""
-        if (at, lot) not in self._known_behind:
-            fitting = self.text_fitting if lot is None else self.lot_fitting[lot]
-            self._known_behind[at, lot] = self._number_behind(self._following(self.states[at]), fitting)
-        return self._known_behind[at, lot]
 
     def is_top(self, lot):
         """Tell whether nodes with the lot of a number fit."""

@@ -1,6 +1,6 @@
 """Why a document does not fit a schema."""
 
-from turnsfit.lotwalks import TEXT_LOT, SchemaMasks
+from turnsfit.lotwalks import TEXT_LOT, SchemaMasks, nested_lots
 from turnsfit.nodes import all_things
 from turnsfit.places import places_of
 from turnsfit.schemas import kinds_of
@@ -13,10 +13,7 @@ def refusal(schema, node):
     lots = SchemaMasks(schema).lots_below(things)
     if _has_top(schema, lots[0]):
         return None
-    made = []
-    for thing, lot in zip(things[::-1], lots[::-1]):
-        made.append("" if isinstance(thing, str) else (lot, tuple(taken(made, len(thing[1])))))
-    return made[0]
+    return nested_lots(things, lots)
 
 
 def _has_top(schema, lot):
