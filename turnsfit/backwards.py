@@ -43,7 +43,8 @@ class LedStates:
         many = -1
         while many < len(self._states) + len(self._bearings):
             many = len(self._states) + len(self._bearings)
-            for at in range(len(self._states)):
+            known = len(self._states)
+            for at in range(known):
                 if at == len(self._texts):
                     self._texts.append(self._behind(at, of_text))
                     self._behind_nodes.append([])

@@ -58,8 +58,9 @@ class Escapes:
 
     def _settled_states(self, waiting):
         """Settle what waits with one size, the first in order first: a list of what is not left out."""
+        ordered = sorted([(self._key(state[0][0], state[2]), state) for state in waiting])
         found = []
-        for _, at, mask, row in sorted([(self._key(at[0], row), at, mask, row) for at, mask, row in waiting]):
+        for _, (at, mask, row) in ordered:
             if not self._is_needless(at, mask):
                 self._masks_at.setdefault(at, []).append(mask)
                 found.append((at, mask, row))

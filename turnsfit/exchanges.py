@@ -23,16 +23,27 @@ def plain_or_exchange(schema):
     if node is None:
         return ("plain", hull)
     # The node is built of documents that fit, one exchange for each node in
-    # it: as it does not fit itself, one of these exchanges leads out.
+    # it: the first one fits, the last one does not, so one exchange leads out.
     maker = WayMaker(schema)
-    found, _ = maker.document(node, ())
-    for place in node_places(node)[1:]:
-        other, where = maker.document(node, place)
-        made = exchanged(found, place, other, where)
-        if not fits(schema, made):
-            break
-        found = made
-    return ("exchange", found, place, other, where)
+    steps = [(place,) + maker.document(node, place) for place in node_places(node)]
+    made = [steps[0][1]]
+    for place, other, where in steps[1:]:
+        made.append(exchanged(made[-1], place, other, where))
+    at = _last_that_fits(schema, made)
+    return ("exchange", made[at]) + steps[at + 1]
+
+
+def _last_that_fits(schema, made):
+    """Tell the number of a document that fits, ahead of one that does not: as the first one does, and not the last."""
+    first = 0
+    last = len(made) - 1
+    while last - first > 1:
+        middle = (first + last) // 2
+        if fits(schema, made[middle]):
+            first = middle
+        else:
+            last = middle
+    return first
 
 
 class WayMaker:

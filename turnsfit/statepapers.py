@@ -76,20 +76,20 @@ class Partings:
         self.known = [state for state, node in enumerate(nodes) if node is not None]
         is_end = [state in table.ends for state in range(len(nodes))]
         pairs = [(one, other) for one in self.known for other in self.known if one < other]
-        self.next = {pair: None for pair in pairs if is_end[pair[0]] != is_end[pair[1]]}
-        left = [pair for pair in pairs if pair not in self.next]
+        self.coming = {pair: None for pair in pairs if is_end[pair[0]] != is_end[pair[1]]}
+        left = [pair for pair in pairs if pair not in self.coming]
         many = -1
-        while many < len(self.next):
-            many = len(self.next)
+        while many < len(self.coming):
+            many = len(self.coming)
             # All that is found in one round comes by those of rounds ahead: so what is to come is as short as can be.
             found = {pair: self._step(pair) for pair in left}
             left = [pair for pair in left if found[pair] is None]
             for pair, step in found.items():
                 if step is not None:
-                    self.next[pair] = step
+                    self.coming[pair] = step
 
     def are_parted(self, one, other):
-        return one != other and (min(one, other), max(one, other)) in self.next
+        return one != other and (min(one, other), max(one, other)) in self.coming
 
     def _step(self, pair):
         """Tell one thing to come behind which two states are parted already, None if there is none."""
@@ -114,7 +114,7 @@ class Partings:
         """Tell a forest to be put behind two states, and the frame in which just one is taken then."""
         rows = [[]]
         frame = []
-        step = self.next[min(one, other), max(one, other)]
+        step = self.coming[min(one, other), max(one, other)]
         while step is not None:
             one, other = self._behind(one, step), self._behind(other, step)
             if step[0] == INTO:
@@ -122,7 +122,7 @@ class Partings:
                 rows.append([])
             else:
                 rows[-1].append("" if step[1] is None else self.nodes[step[1]])
-            step = self.next[min(one, other), max(one, other)]
+            step = self.coming[min(one, other), max(one, other)]
         triples = [(node[0], node[1], tuple(row)) for node, row in zip(frame, rows[1:])]
         return (tuple(rows[0]), tuple(triples[::-1]))
 

@@ -49,7 +49,8 @@ class SideBySide:
         many = -1
         while many < len(self.pairs) + len(self.sort_pairs):
             many = len(self.pairs) + len(self.sort_pairs)
-            for at in range(len(self.pairs)):
+            known = len(self.pairs)
+            for at in range(known):
                 first, second = self.pairs[at]
                 if at == len(self.texts):
                     self.texts.append(self._number_of((one.texts[first], other.texts[second])))
