@@ -50,19 +50,19 @@ def _read_apart(masks):
 
 def useful(walk, letters):
     """Leave states and ways on some row of letters of a dict from 0 to an end; None if there is no such row."""
-    nexts = [[pair for pair in after if pair[0] in letters] for after in walk.nexts]
-    ahead = _met([0], [[other for _, other in after] for after in nexts])
+    nexts = [[pair for pair in ways if pair[0] in letters] for ways in walk.nexts]
+    ahead = _met([0], [[pair[1] for pair in ways] for ways in nexts])
     before = [[] for _ in nexts]
     for state, after in enumerate(nexts):
         for _, other in after:
             before[other].append(state)
-    behind = _met([state for state, is_end in enumerate(walk.ends) if is_end], before)
+    behind = _met([number for number, is_end in enumerate(walk.ends) if is_end], before)
     if 0 not in behind:
         return None
-    order = [state for state in ahead if state in behind]
-    numbers = {state: at for at, state in enumerate(order)}
-    left = [[(letter, numbers[other]) for letter, other in nexts[state] if other in numbers] for state in order]
-    return RowWalk(left, [walk.ends[state] for state in order])
+    order = [number for number in ahead if number in behind]
+    numbers = {number: at for at, number in enumerate(order)}
+    left = [[(pair[0], numbers[pair[1]]) for pair in nexts[number] if pair[1] in numbers] for number in order]
+    return RowWalk(left, [walk.ends[number] for number in order])
 
 
 def _met(first, nexts):
