@@ -24,10 +24,10 @@ class Beside:
         self._looked_at = []
         self._sort_numbers = {}
         self.told = []
-        self.nexts = []
-        self.sorts = []
-        self.begins = [(name, self._number_of((kind, 0, self._other.begin(name))))
-                       for kind, name, _ in self._schema.types]
+        self._nexts = []
+        self._sorts = []
+        for kind, name, _ in self._schema.types:
+            self._number_of((kind, 0, self._other.begin(name)))
         self._finish()
 
     def _number_of(self, state):
@@ -35,8 +35,8 @@ class Beside:
             self._known[state] = len(self._states)
             self._states.append(state)
             self._looked_at.append(None)
-            self.nexts.append([])
-            self.sorts.append(self._sorts_of(state))
+            self._nexts.append([])
+            self._sorts.append(self._sorts_of(state))
         return self._known[state]
 
     def _sorts_of(self, state):
@@ -75,7 +75,7 @@ class Beside:
         """Note for a state which come behind a thing: triples of a type, how far its row is read, and a lot."""
         grown = self._states[number][2]
         for kind, at, lot in found:
-            self.nexts[number].append((thing, self._number_of((kind, at, self._other.behind(grown, lot)))))
+            self._nexts[number].append((thing, self._number_of((kind, at, self._other.behind(grown, lot)))))
 
     def escaping(self):
         """List the sorts of documents of the first schema that do not fit the other one."""
@@ -90,9 +90,9 @@ class Beside:
         many = -1
         while many < len(set(sorts)) + len(set(states)):
             many = len(set(sorts)) + len(set(states))
-            own = [sorts[row[0]] if row else None for row in self.sorts]
+            own = [sorts[row[0]] if row else None for row in self._sorts]
             after = [tuple(sorted({(TEXT if thing == TEXT else sorts[thing], states[other]) for thing, other in pairs}))
-                     for pairs in self.nexts]
+                     for pairs in self._nexts]
             sorts = self._parted_sorts(sorts, states)
             states = numbered(list(zip(states, own, after)))
         return sorts
@@ -100,7 +100,7 @@ class Beside:
     def _parted_sorts(self, sorts, states):
         """List classes of sorts, such that behind those of one class each state goes on to the same classes."""
         found = [[] for _ in sorts]
-        for state, pairs in enumerate(self.nexts):
+        for state, pairs in enumerate(self._nexts):
             for thing, other in pairs:
                 if thing != TEXT:
                     found[thing].append((state, states[other]))
@@ -111,6 +111,6 @@ class Beside:
         kind = self.told[chosen[0]][0]
         order = [number for number, state in enumerate(self._states) if state[0] == kind]
         numbers = {number: at for at, number in enumerate(order)}
-        nexts = [[("" if thing == TEXT else letters[thing], numbers[other]) for thing, other in self.nexts[number]]
+        nexts = [[("" if thing == TEXT else letters[thing], numbers[other]) for thing, other in self._nexts[number]]
                  for number in order]
-        return RowWalk(nexts, [any([sort in chosen for sort in self.sorts[number]]) for number in order])
+        return RowWalk(nexts, [any([sort in chosen for sort in self._sorts[number]]) for number in order])
