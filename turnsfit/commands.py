@@ -15,7 +15,7 @@ FIGURES = "0123456789"
 # An integer has at most so many figures.
 FIGURES_MOST = 4000
 
-# How many words an edit has behind its own one and the place, and whether the first of these is a number.
+# How many things the forms of edits have, their words among them.
 EDIT_LENGTHS = {"put": 4, "drop": 3, "name": 3, "say": 4}
 
 
